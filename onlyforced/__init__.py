@@ -1,0 +1,1 @@
+"""Onlyforced: settings that many hands write apart under one law."""

@@ -1,0 +1,21 @@
+"""The plain forms from which all others are built: numbers and pairs."""
+
+
+def plain_number(thing):
+    """Whether thing is a number: an int that is neither True nor False."""
+    return isinstance(thing, int) and not isinstance(thing, bool)
+
+
+def number_within(thing, low, high):
+    """Whether thing is a number from low to high, both included."""
+    return plain_number(thing) and low <= thing <= high
+
+
+def plain_pair(thing):
+    """Whether thing is a tuple of two."""
+    return isinstance(thing, tuple) and len(thing) == 2
+
+
+def tuple_sized(thing, low, high):
+    """Whether thing is a tuple of low to high parts, both included."""
+    return isinstance(thing, tuple) and low <= len(thing) <= high

@@ -1,0 +1,80 @@
+"""Sizes and settings [1], pages [2], and what two or three pages tell [4]."""
+
+from onlyforced.errors import BadPage, BadSetting, BadSizes
+from onlyforced.forms import number_within, tuple_sized
+
+MOST_SETTINGS = 24
+MOST_WORTHS = 6
+
+
+def sizes_fault(thing):
+    """What BadSizes tells of thing, None if it is sizes."""
+    if not tuple_sized(thing, 1, MOST_SETTINGS):
+        return -1
+    for index, many in enumerate(thing):
+        if not number_within(many, 1, MOST_WORTHS):
+            return index
+    return None
+
+
+def made_sizes(thing):
+    """Return thing, if it is sizes."""
+    fault = sizes_fault(thing)
+    if fault is not None:
+        raise BadSizes(fault)
+    return thing
+
+
+def is_sizes(thing):
+    """Whether thing is sizes."""
+    return sizes_fault(thing) is None
+
+
+def setting_of(sizes, thing):
+    """Whether thing is a setting of right sizes."""
+    return number_within(thing, 0, len(sizes) - 1)
+
+
+def worth_of(sizes, setting, thing):
+    """Whether thing is a worth of a setting of right sizes."""
+    return number_within(thing, 0, sizes[setting] - 1)
+
+
+def made_setting(sizes, thing):
+    """Return thing, if it is a setting of right sizes."""
+    if not setting_of(sizes, thing):
+        raise BadSetting(thing)
+    return thing
+
+
+def page_fault(sizes, thing):
+    """What BadPage tells of thing, None if it is a page over right sizes."""
+    if not tuple_sized(thing, len(sizes), len(sizes)):
+        return -1
+    for setting, worth in enumerate(thing):
+        if not worth_of(sizes, setting, worth):
+            return setting
+    return None
+
+
+def made_page(sizes, thing):
+    """Return thing, if it is a page over sizes."""
+    fault = page_fault(made_sizes(sizes), thing)
+    if fault is not None:
+        raise BadPage(fault)
+    return thing
+
+
+def is_page(sizes, thing):
+    """Whether sizes are right, and thing is a page over them."""
+    return is_sizes(sizes) and page_fault(sizes, thing) is None
+
+
+def changed(x, y):
+    """The settings at which two pages differ, rising."""
+    return tuple([setting for setting, (a, b) in enumerate(zip(x, y)) if a != b])
+
+
+def move(x, y, z):
+    """The page with the worths of x where x and y agree, and of z elsewhere."""
+    return tuple([a if a == b else c for a, b, c in zip(x, y, z)])

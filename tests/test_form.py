@@ -1,0 +1,125 @@
+"""Those rules of LANGUAGE.md about the files of the package that a short look can tell."""
+
+import ast
+import builtins
+import pathlib
+import re
+import unittest
+
+PACKAGE = pathlib.Path(__file__).resolve().parent.parent / "onlyforced"
+
+LIBRARY = {
+    "heapq": {"heappush", "heappop", "heapify", "heapreplace", "heappushpop"},
+    "math": {"gcd", "lcm", "isqrt", "comb", "perm", "factorial"},
+    "itertools": {
+        "product", "combinations", "permutations",
+        "chain", "accumulate", "pairwise", "islice", "zip_longest",
+    },
+    "collections": {"defaultdict", "deque"},
+}
+
+BUILTINS = set("""
+len range enumerate zip min max sum abs sorted reversed int str bool bytes list tuple dict set frozenset
+isinstance ord repr any all divmod pow getattr hasattr setattr iter next map type super property
+staticmethod classmethod Exception ValueError TypeError KeyError IndexError LookupError
+ZeroDivisionError ArithmeticError OverflowError RuntimeError NotImplementedError AttributeError
+StopIteration NotImplemented
+""".split())
+
+
+def sources():
+    return sorted(PACKAGE.rglob("*.py"))
+
+
+def trees():
+    return [(path, ast.parse(path.read_text(encoding="ascii"))) for path in sources()]
+
+
+def imports_of(tree):
+    return [node for node in ast.walk(tree) if isinstance(node, (ast.Import, ast.ImportFrom))]
+
+
+class FormTest(unittest.TestCase):
+    def test_the_package_holds_plain_files_only(self):
+        for path in PACKAGE.rglob("*"):
+            if "__pycache__" in path.parts:
+                continue
+            self.assertRegex(path.name, r"^[a-z0-9_]+\.py$")
+
+    def test_signs_lines_and_lengths(self):
+        for path in sources():
+            text = path.read_text(encoding="ascii")
+            self.assertIsNone(re.search(r"[^\n -~]", text), path.name)
+            lines = text.split("\n")
+            self.assertLessEqual(len(lines), 399, path.name)
+            self.assertLessEqual(max(len(line) for line in lines), 120, path.name)
+
+    def test_functions_are_short(self):
+        for path, tree in trees():
+            for node in ast.walk(tree):
+                if isinstance(node, ast.FunctionDef):
+                    self.assertLessEqual(node.end_lineno - node.lineno + 1, 40, (path.name, node.name))
+
+    def test_imports(self):
+        for path, tree in trees():
+            for node in imports_of(tree):
+                self.assertIsInstance(node, ast.ImportFrom, path.name)
+                self.assertEqual(node.level, 0, path.name)
+                names = {alias.name for alias in node.names}
+                self.assertTrue(all(alias.asname is None for alias in node.names), path.name)
+                if node.module in LIBRARY:
+                    self.assertLessEqual(names, LIBRARY[node.module], path.name)
+                    continue
+                package, _, file = node.module.partition(".")
+                self.assertEqual(package, "onlyforced", path.name)
+                there = ast.parse((PACKAGE / (file + ".py")).read_text(encoding="ascii"))
+                defined = {
+                    part.name for part in there.body if isinstance(part, (ast.FunctionDef, ast.ClassDef))
+                }
+                for part in there.body:
+                    if isinstance(part, ast.Assign):
+                        defined |= {target.id for target in part.targets}
+                self.assertLessEqual(names, defined, path.name)
+
+    def test_no_two_files_import_from_each_other(self):
+        reach = {}
+        for path, tree in trees():
+            modules = [node.module for node in imports_of(tree)]
+            reach[path.stem] = [name.partition(".")[2] for name in modules if "." in name]
+
+        def look(file, above):
+            self.assertNotIn(file, above)
+            for other in reach[file]:
+                look(other, above + [file])
+
+        for file in reach:
+            look(file, [])
+
+    def test_module_level_holds_only_definitions(self):
+        for path, tree in trees():
+            for number, node in enumerate(tree.body):
+                docstring = number == 0 and isinstance(node, ast.Expr)
+                right = (ast.ImportFrom, ast.FunctionDef, ast.ClassDef, ast.Assign)
+                self.assertTrue(docstring or isinstance(node, right), (path.name, node.lineno))
+
+    def test_only_the_builtins_of_the_language(self):
+        barred = {name for name in dir(builtins) if not name.startswith("_")} - BUILTINS
+        barred -= {"True", "False", "None"}
+        for path, tree in trees():
+            for node in ast.walk(tree):
+                if isinstance(node, ast.Name):
+                    self.assertNotIn(node.id, barred, (path.name, node.lineno))
+                if isinstance(node, (ast.FunctionDef, ast.ClassDef, ast.arg)):
+                    name = node.arg if isinstance(node, ast.arg) else node.name
+                    self.assertNotIn(name, barred | BUILTINS, (path.name, node.lineno))
+
+    def test_no_floats_and_no_division(self):
+        for path, tree in trees():
+            for node in ast.walk(tree):
+                self.assertNotIsInstance(node, ast.Div, path.name)
+                if isinstance(node, ast.Constant):
+                    self.assertNotIsInstance(node.value, (float, complex), path.name)
+
+
+if __name__ == "__main__":
+    unittest.main()

@@ -1,0 +1,76 @@
+"""[0.1]: the interface as the document lists it: where it stands, names, arguments, kinds."""
+
+import importlib
+import inspect
+import unittest
+
+from tests.helpers import T, exactly
+
+# Each row: the file, the function, its arguments by name, and what it returns for them.
+ROWS = (
+    ("pages", "made_sizes", {"thing": (3, 2)}, (3, 2)),
+    ("pages", "is_sizes", {"thing": (3, 2)}, True),
+    ("pages", "made_page", {"sizes": (3, 2), "thing": (2, 1)}, (2, 1)),
+    ("pages", "is_page", {"sizes": (3, 2), "thing": (2, 1)}, True),
+    ("pages", "changed", {"x": (0, 1), "y": (2, 1)}, (0,)),
+    ("pages", "move", {"x": (0, 1), "y": (2, 1), "z": (1, 0)}, (1, 1)),
+    ("edits", "made_edit", {"sizes": (3, 2), "thing": ((0, 2),)}, ((0, 2),)),
+    ("edits", "is_edit", {"sizes": (3, 2), "thing": ((0, 2),)}, True),
+    ("edits", "over", {"page": (0, 1), "edit": ((0, 2),)}, (2, 1)),
+    ("edits", "fits", {"page": (0, 1), "edit": ((0, 2),)}, False),
+    ("edits", "whole", {"page": (2, 1)}, ((0, 2), (1, 1))),
+    ("edits", "cut_to", {"edit": ((0, 2), (1, 1)), "lot": (1,)}, ((1, 1),)),
+    ("edits", "within", {"one": ((0, 2),), "two": ((0, 2), (1, 1))}, True),
+    ("edits", "laid", {"one": ((0, 2),), "two": ((0, 1),)}, ((0, 1),)),
+    ("edits", "together", {"one": ((0, 2),), "two": ((1, 1),)}, ((0, 2), (1, 1))),
+    ("edits", "agreed", {"x": (0, 1), "y": (2, 1)}, ((1, 1),)),
+    ("tables", "made_table", {"thing": T}, T),
+    ("tables", "is_table", {"thing": T}, True),
+    ("tables", "lawful", {"table": T, "page": (0, 1)}, True),
+    ("tables", "having", {"table": T, "edit": ((1, 0),)}, ((0, 0),)),
+    ("tables", "forced_of", {"table": T, "wish": ((0, 1),)}, ((0, 1), (1, 1))),
+    ("tables", "fixed_of", {"table": T}, ()),
+    ("tables", "pairs_of", {"table": T, "i": 1, "j": 0}, ((0, 0), (1, 0), (1, 1), (1, 2))),
+    ("sorts", "sort_of", {"pairs": ((0, 5), (3, 2))}, ("tied",)),
+)
+
+
+class InterfaceTest(unittest.TestCase):
+    def function(self, file, name):
+        return getattr(importlib.import_module("onlyforced." + file), name)
+
+    def test_each_function_is_defined_in_its_file(self):
+        for file, name, _, _ in ROWS:
+            self.assertEqual(self.function(file, name).__module__, "onlyforced." + file)
+
+    def test_arguments_have_the_names_of_the_interface(self):
+        for file, name, named, _ in ROWS:
+            parameters = inspect.signature(self.function(file, name)).parameters
+            self.assertEqual(list(parameters), list(named), name)
+            for parameter in parameters.values():
+                self.assertEqual(parameter.kind, parameter.POSITIONAL_OR_KEYWORD)
+                self.assertIs(parameter.default, parameter.empty)
+
+    def test_arguments_by_position_and_by_name(self):
+        for file, name, named, wanted in ROWS:
+            function = self.function(file, name)
+            exactly(self, function(*named.values()), wanted)
+            exactly(self, function(**named), wanted)
+            exactly(self, function(**dict(reversed(named.items()))), wanted)
+            first, *rest = named
+            exactly(self, function(named[first], **{key: named[key] for key in rest}), wanted)
+
+    def test_nothing_handed_in_is_changed(self):
+        for file, name, named, _ in ROWS:
+            before = repr(named)
+            self.function(file, name)(**named)
+            self.assertEqual(repr(named), before)
+
+    def test_equal_calls_return_the_same(self):
+        for file, name, named, _ in ROWS:
+            function = self.function(file, name)
+            exactly(self, function(**named), function(**named))
+
+
+if __name__ == "__main__":
+    unittest.main()
