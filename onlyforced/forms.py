@@ -19,3 +19,8 @@ def plain_pair(thing):
 def tuple_sized(thing, low, high):
     """Whether thing is a tuple of low to high parts, both included."""
     return isinstance(thing, tuple) and low <= len(thing) <= high
+
+
+def rises(parts):
+    """Whether each part is greater than the one ahead of it; all can be compared."""
+    return all([one < two for one, two in zip(parts, parts[1:])])

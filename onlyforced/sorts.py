@@ -1,7 +1,7 @@
 """The sorts of pairs [9]: free, tied, either."""
 
 from onlyforced.errors import BadPairs
-from onlyforced.forms import plain_number, plain_pair
+from onlyforced.forms import plain_number, plain_pair, rises
 
 
 def _number_pair(thing):
@@ -16,9 +16,7 @@ def _are_pairs(thing):
     if not isinstance(thing, tuple) or not thing:
         return False
     # The parts are compared only once all are pairs of numbers: others may have no order.
-    if not all([_number_pair(part) for part in thing]):
-        return False
-    return all([one < two for one, two in zip(thing, thing[1:])])
+    return all([_number_pair(part) for part in thing]) and rises(thing)
 
 
 def _counts(numbers):

@@ -69,9 +69,12 @@ def fixed_of(table):
     return forced_of(table, ())
 
 
+def pairs_at(pages, i, j):
+    """The pairs (worth at i, worth at j) that the pages have, rising."""
+    return tuple(sorted({(page[i], page[j]) for page in pages}))
+
+
 def pairs_of(table, i, j):
     """The pairs (worth at i, worth at j) that lawful pages have, rising."""
     sizes, pages = made_table(table)
-    first = made_setting(sizes, i)
-    second = made_setting(sizes, j)
-    return tuple(sorted({(page[first], page[second]) for page in pages}))
+    return pairs_at(pages, made_setting(sizes, i), made_setting(sizes, j))

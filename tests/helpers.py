@@ -1,11 +1,22 @@
 """What several tests share: exact looks at errors and answers, and things to be judged."""
 
+import itertools
 import random
+import time
 
-from onlyforced.errors import Refused
+from onlyforced.errors import BadBook, BadSaying, BadSizes, Refused
+from onlyforced.sorts import sort_of
 
 # The law of DOC.md [8]: the state is draft, or the lock is on.
 T = ((3, 2), ((0, 0), (0, 1), (1, 1), (2, 1)))
+
+# The table of DOC.md [12]: an even number of the three settings is 1.
+E = ((2, 2, 2), ((0, 0, 0), (0, 1, 1), (1, 0, 1), (1, 1, 0)))
+
+# The books of DOC.md [24]: M is "at most one of three", no page keeps N.
+M = ((2, 2, 2), (("either", 0, 0, 1, 0), ("either", 0, 0, 2, 0), ("either", 1, 0, 2, 0)))
+C = ((2, 2), (("either", 0, 0, 1, 0), ("either", 0, 0, 1, 1)))
+N = ((2, 2), C[1] + (("either", 0, 1, 1, 0), ("either", 0, 1, 1, 1)))
 
 DEEP = 50
 
@@ -42,6 +53,20 @@ def refused(case, error, what, call, *args, **named):
 def exactly(case, answer, wanted):
     """Expect an answer of the same parts and of the same kinds: True is not 1 here."""
     case.assertEqual(repr(answer), repr(wanted))
+
+
+class Quick:
+    """Expect what is done within it to be done soon."""
+
+    def __init__(self, case, seconds=1.5):
+        self.case = case
+        self.seconds = seconds
+
+    def __enter__(self):
+        self.begun = time.monotonic()
+
+    def __exit__(self, *told):
+        self.case.assertLess(time.monotonic() - self.begun, self.seconds)
 
 
 def random_thing(source, depth):
@@ -85,6 +110,135 @@ def random_table(source, most_settings=4, most_pages=12):
     sizes = random_sizes(source, most_settings)
     many = source.randint(1, most_pages)
     return (sizes, tuple(sorted({random_page(source, sizes) for _ in range(many)})))
+
+
+def all_pages(sizes):
+    """All pages over sizes, rising."""
+    return list(itertools.product(*[range(many) for many in sizes]))
+
+
+def all_edits(sizes):
+    """All edits over sizes, rising."""
+    edits = []
+    for worths in itertools.product(*[[None] + list(range(many)) for many in sizes]):
+        edits.append(tuple((at, worth) for at, worth in enumerate(worths) if worth is not None))
+    return sorted(edits)
+
+
+def saying_kept(saying, page):
+    """Whether a page keeps a saying, as [19] tells it."""
+    match saying:
+        case ("own", i, worths):
+            return page[i] in worths
+        case ("tied", i, j, pairs):
+            return (page[i], page[j]) in pairs
+        case ("either", i, a, j, b):
+            return page[i] == a or page[j] == b
+
+
+def lawful_pages(book):
+    """The pages that keep all sayings of a book, rising, gone through page by page."""
+    sizes, sayings = book
+    return [page for page in all_pages(sizes) if all(saying_kept(one, page) for one in sayings)]
+
+
+def all_sayings(sizes):
+    """All sayings over sizes."""
+    for i, many in enumerate(sizes):
+        for most in range(1, many + 1):
+            for worths in itertools.combinations(range(many), most):
+                yield ("own", i, worths)
+    for i, j in itertools.combinations(range(len(sizes)), 2):
+        for a, b in itertools.product(range(sizes[i]), range(sizes[j])):
+            yield ("either", i, a, j, b)
+        for most in range(1, min(sizes[i], sizes[j]) + 1):
+            for firsts in itertools.combinations(range(sizes[i]), most):
+                for seconds in itertools.permutations(range(sizes[j]), most):
+                    yield ("tied", i, j, tuple(zip(firsts, seconds)))
+
+
+def random_saying(source, sizes):
+    """A saying over sizes; rather one that lets many pages be."""
+    if len(sizes) == 1 or source.random() < 0.25:
+        i = source.randrange(len(sizes))
+        most = max(source.randint(1, sizes[i]), source.randint(1, sizes[i]))
+        return ("own", i, tuple(sorted(source.sample(range(sizes[i]), most))))
+    i, j = sorted(source.sample(range(len(sizes)), 2))
+    if source.random() < 0.4:
+        fewest = min(sizes[i], sizes[j])
+        most = source.randint(max(1, fewest - 1), fewest)
+        firsts, seconds = source.sample(range(sizes[i]), most), source.sample(range(sizes[j]), most)
+        return ("tied", i, j, tuple(sorted(zip(firsts, seconds))))
+    return ("either", i, source.randrange(sizes[i]), j, source.randrange(sizes[j]))
+
+
+def random_book(source, sizes, most):
+    return (sizes, tuple(random_saying(source, sizes) for _ in range(source.randint(0, most))))
+
+
+def small_books(source, many=500):
+    """Books, each with its pages, gone through one by one; not every one has some."""
+    for _ in range(many):
+        book = random_book(source, random_sizes(source, 4), 8)
+        yield book, lawful_pages(book)
+
+
+def tight_told(sizes, pages):
+    """The tight book of just these pages, as [21] tells it."""
+    sayings = []
+    for i in range(len(sizes)):
+        sayings.append(("own", i, tuple(sorted({page[i] for page in pages}))))
+    for i, j in itertools.combinations(range(len(sizes)), 2):
+        pairs = tuple(sorted({(page[i], page[j]) for page in pages}))
+        match sort_of(pairs):
+            case ("tied",):
+                sayings.append(("tied", i, j, pairs))
+            case ("either", a, b):
+                sayings.append(("either", i, a, j, b))
+            case sort:
+                assert sort == ("free",)
+    return (sizes, tuple(sayings))
+
+
+def planted_book(source, sizes, many):
+    """A book of many sayings that some page keeps, and such a page."""
+    page = random_page(source, sizes)
+    sayings = []
+    while len(sayings) < many:
+        saying = random_saying(source, sizes)
+        if saying_kept(saying, page):
+            sayings.append(saying)
+    return (sizes, tuple(sayings)), page
+
+
+# What is no book, with the error and its what, in the order in which they are asked.
+WRONG_BOOKS = (
+    (None, BadBook, -1),
+    (3, BadBook, -1),
+    ("ab", BadBook, -1),
+    ((), BadBook, -1),
+    (((3, 2),), BadBook, -1),
+    (((3, 2), (), ()), BadBook, -1),
+    (((3, 2), None), BadBook, -1),
+    (((3, 2), 7), BadBook, -1),
+    (((3, 2), "ab"), BadBook, -1),
+    (((3, 2), (("own", 0, (0,)),) * 401), BadBook, -1),
+    (((), (None,) * 401), BadBook, -1),
+    ((None, None), BadBook, -1),
+    (((), ()), BadSizes, -1),
+    ((None, (None,)), BadSizes, -1),
+    (("ab", ()), BadSizes, -1),
+    (((2,) * 25, ()), BadSizes, -1),
+    (((3, 7), (None,)), BadSizes, 1),
+    (((True, 2), ()), BadSizes, 0),
+    (((3, 2), (None,)), BadSaying, 0),
+    (((3, 2), (("own", 0, (0,)), ("own", 2, (0,)))), BadSaying, 1),
+    (((3, 2), (("own", 0, (3,)), None)), BadSaying, 0),
+    (((3, 2), (("either", 0, 0, 1, 0), ("either", 1, 0, 0, 0))), BadSaying, 1),
+    (((3, 2), (("tied", 0, 1, ((0, 0), (1, 0))),)), BadSaying, 0),
+    (((3, 2), (("own", 0, (0,)),) * 399 + ("own",)), BadSaying, 399),
+    (((1, 1), (("own", 0, (0,)), nested(47, 0))), BadSaying, 1),
+)
 
 
 def seeded(number):

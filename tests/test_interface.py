@@ -4,7 +4,10 @@ import importlib
 import inspect
 import unittest
 
-from tests.helpers import T, exactly
+from tests.helpers import C, M, N, T, exactly
+
+T_BOOK = ((3, 2), (("own", 0, (0, 1, 2)), ("own", 1, (0, 1)), ("either", 0, 0, 1, 1)))
+C_TIGHT = ((2, 2), (("own", 0, (0,)), ("own", 1, (0, 1))))
 
 # Each row: the file, the function, its arguments by name, and what it returns for them.
 ROWS = (
@@ -32,6 +35,25 @@ ROWS = (
     ("tables", "fixed_of", {"table": T}, ()),
     ("tables", "pairs_of", {"table": T, "i": 1, "j": 0}, ((0, 0), (1, 0), (1, 1), (1, 2))),
     ("sorts", "sort_of", {"pairs": ((0, 5), (3, 2))}, ("tied",)),
+    ("judge", "writable", {"table": T}, True),
+    ("judge", "three", {"table": T}, None),
+    ("judge", "book_of", {"table": T}, T_BOOK),
+    ("judge", "why", {"table": T}, ("book", T_BOOK)),
+    ("safe", "safe", {"table": T, "edit": ((0, 1),)}, False),
+    ("safe", "breaks", {"table": T, "edit": ((0, 1),)}, (0, 0)),
+    ("safe", "safe_edits", {"table": ((2,), ((1,),))}, ((), ((0, 1),))),
+    ("safe", "least_edits", {"table": T, "wish": ((0, 1),)}, (((0, 1), (1, 1)),)),
+    ("books", "is_saying", {"sizes": (3, 2), "thing": ("own", 0, (2,))}, True),
+    ("books", "made_book", {"thing": M}, M),
+    ("books", "is_book", {"thing": M}, True),
+    ("books", "keeps", {"book": M, "page": (1, 0, 1)}, False),
+    ("books", "broken", {"book": M, "page": (1, 0, 1)}, 1),
+    ("closing", "tight", {"book": C}, C_TIGHT),
+    ("closing", "alike", {"one": C, "two": N}, False),
+    ("closing", "follows", {"book": M, "saying": ("own", 2, (0,))}, False),
+    ("closing", "against", {"book": M, "saying": ("own", 2, (0,))}, (0, 0, 1)),
+    ("fills", "least_page", {"book": M, "wish": ((1, 1),)}, (0, 1, 0)),
+    ("fills", "pages_of", {"book": M, "most": 2}, ((0, 0, 0), (0, 0, 1))),
 )
 
 
