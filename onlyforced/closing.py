@@ -32,12 +32,11 @@ def book_from(sizes, pairs):
 
 def tight(book):
     """The tight book that the same pages keep, None if no page does."""
-    sizes, sayings = made_book(book)
-    left = closed((sizes, sayings))
+    left = closed(made_book(book))
     if left is None:
         return None
-    settings = range(len(sizes))
-    return book_from(sizes, {(i, j): left.pairs(i, j) for i in settings for j in settings if i <= j})
+    settings = range(len(left.sizes))
+    return book_from(left.sizes, {(i, j): left.pairs(i, j) for i in settings for j in settings if i <= j})
 
 
 def alike(one, two):
@@ -77,10 +76,10 @@ def _breaches(sizes, saying):
 
 def against(book, saying):
     """The least page that keeps the book and not the saying, None if there is none."""
-    sizes, sayings = made_book(book)
+    sizes, _ = made_book(book)
     if not saying_right(sizes, saying):
         raise BadSaying(0)
-    left = closed((sizes, sayings))
+    left = closed(book)
     if left is None:
         return None
     pages = [left.least_page(edit) for edit in _breaches(sizes, saying)]
