@@ -139,7 +139,7 @@ class Left:
 def closed(book):
     """What is left of a right book, None if no page keeps it."""
     sizes, sayings = book
-    rows = [mask_of(setting, range(many)) for setting, many in enumerate(sizes)]
+    rows = [mask_of(setting, list(range(many))) for setting, many in enumerate(sizes)]
     leads = _leads(sizes, sayings)
     barred = _barred(sizes, sayings)
     left = 0

@@ -27,6 +27,45 @@ StopIteration NotImplemented
 """.split())
 
 
+# What is iterated on the spot, and what may do so: rules L2 and L23.
+AT_ONCE = {"range", "zip", "enumerate", "reversed"}
+VIEWS = {"items", "keys", "values"}
+TAKES_FIRST = {
+    "list", "tuple", "dict", "sorted", "sum", "any", "all", "enumerate", "min", "max", "join",
+    "combinations", "permutations",
+}
+TAKES_EACH = {"zip", "product"}
+
+
+def name_called(node):
+    """The name of the function or method that is called, None if nothing is."""
+    if not isinstance(node, ast.Call):
+        return None
+    return node.func.id if isinstance(node.func, ast.Name) else getattr(node.func, "attr", None)
+
+
+def iterated_at_once(node):
+    """Whether the call is one whose answer is to be iterated on the spot."""
+    if isinstance(node, ast.Call) and isinstance(node.func, ast.Attribute):
+        return node.func.attr in VIEWS and not node.args
+    return name_called(node) in AT_ONCE
+
+
+def may_iterate(parent, node):
+    """Whether a node that is to be iterated on the spot may stand there below its parent."""
+    if isinstance(parent, (ast.For, ast.comprehension)):
+        return parent.iter is node
+    if isinstance(parent, ast.Assign):
+        # A plain local variable may keep it.
+        return len(parent.targets) == 1 and isinstance(parent.targets[0], ast.Name)
+    if isinstance(parent, ast.Compare):
+        return name_called(node) == "range" and isinstance(parent.ops[0], (ast.In, ast.NotIn))
+    name = name_called(parent)
+    if name in ("len", "reversed"):
+        return name_called(node) == "range"
+    return name in TAKES_EACH or name in TAKES_FIRST and parent.args[0] is node
+
+
 def sources():
     return sorted(PACKAGE.rglob("*.py"))
 
@@ -112,6 +151,27 @@ class FormTest(unittest.TestCase):
                 if isinstance(node, (ast.FunctionDef, ast.ClassDef, ast.arg)):
                     name = node.arg if isinstance(node, ast.arg) else node.name
                     self.assertNotIn(name, barred | BUILTINS, (path.name, node.lineno))
+
+    def test_ranges_and_their_like_are_iterated_at_once(self):
+        for path, tree in trees():
+            for parent in ast.walk(tree):
+                for node in ast.iter_child_nodes(parent):
+                    if iterated_at_once(node):
+                        self.assertTrue(may_iterate(parent, node), (path.name, node.lineno))
+
+    def test_a_range_that_is_handed_to_a_function_is_found(self):
+        for text, right in (
+            ("f(range(3))", False), ("f(list(range(3)))", True), ("x = [k for k in range(3)]", True),
+            ("x = f(2, zip(a, b))", False), ("return_ = f(d.items())", False), ("x = range(3)", True),
+            ("x = sorted(d.items())", True), ("x.y = range(3)", False), ("x = (range(3), 1)", False),
+            ("x = k in range(3)", True), ("x = len(range(3))", True), ("x = len(zip(a, b))", False),
+        ):
+            tree = ast.parse(text)
+            found = [
+                may_iterate(parent, node) for parent in ast.walk(tree)
+                for node in ast.iter_child_nodes(parent) if iterated_at_once(node)
+            ]
+            self.assertEqual(found, [right], text)
 
     def test_no_floats_and_no_division(self):
         for path, tree in trees():
