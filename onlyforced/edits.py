@@ -5,12 +5,9 @@ from onlyforced.forms import plain_pair
 from onlyforced.pages import is_sizes, made_sizes, setting_of, worth_of
 
 
-def _goes_on(sizes, last, part):
-    """Whether part can stand in an edit behind a pair of the setting last."""
-    if not plain_pair(part):
-        return False
-    setting, worth = part
-    return setting_of(sizes, setting) and setting > last and worth_of(sizes, setting, worth)
+def has_worth(sizes, thing):
+    """Whether thing is a pair of a setting of right sizes and a worth of it."""
+    return plain_pair(thing) and setting_of(sizes, thing[0]) and worth_of(sizes, thing[0], thing[1])
 
 
 def edit_fault(sizes, thing):
@@ -19,7 +16,7 @@ def edit_fault(sizes, thing):
         return -1
     last = -1
     for index, part in enumerate(thing):
-        if not _goes_on(sizes, last, part):
+        if not has_worth(sizes, part) or part[0] <= last:
             return index
         last = part[0]
     return None
@@ -59,6 +56,11 @@ def whole(page):
 def cut_to(edit, lot):
     """The edit of those pairs whose settings are in the lot."""
     return tuple([(setting, worth) for setting, worth in edit if setting in lot])
+
+
+def tells(edit, setting):
+    """Whether the setting stands in the edit."""
+    return setting in [told for told, worth in edit]
 
 
 def within(one, two):

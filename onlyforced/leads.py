@@ -5,7 +5,8 @@ spot_of(i, a) tells whether the worth a of the setting i is among them.
 """
 
 from onlyforced.books import made_book
-from onlyforced.errors import NoPage
+from onlyforced.edits import whole
+from onlyforced.errors import CannotMeet, NoPage, NotLawful
 from onlyforced.pages import MOST_WORTHS
 
 
@@ -41,7 +42,7 @@ def _barred(sizes, sayings):
     return barred
 
 
-def _steps(sizes, saying):
+def steps_of(sizes, saying):
     """Tuples (i, a, j, b): by the saying the worth a of i leads to the worth b of j."""
     if saying[0] == "tied":
         i, j = saying[1], saying[2]
@@ -57,7 +58,7 @@ def _leads(sizes, sayings):
     """For each spot the mask of all that its worth leads to, itself among them."""
     leads = [1 << spot for spot in range(spot_of(len(sizes), 0))]
     for saying in sayings:
-        for i, a, j, b in _steps(sizes, saying):
+        for i, a, j, b in steps_of(sizes, saying):
             leads[spot_of(i, a)] |= mask_of(j, [b])
     # Behind each round all is there that is led to by way of the spots up to this one.
     for way in range(len(leads)):
@@ -110,6 +111,36 @@ class Left:
         """The worths of the setting that are in the mask, rising."""
         return [worth for worth in range(self.sizes[setting]) if mask >> spot_of(setting, worth) & 1]
 
+    def stand(self, one, two):
+        """Whether some lawful page has both of two pairs, each of a setting and a worth of it."""
+        return self._beside[spot_of(one[0], one[1])] >> spot_of(two[0], two[1]) & 1 == 1
+
+    def bar(self, wish):
+        """The least pair of the wish's settings that no lawful page has so, None if all are met."""
+        for at, one in enumerate(wish):
+            for two in wish[at:]:
+                if not self.stand(one, two):
+                    return (one[0], two[0])
+        return None
+
+    def _alone(self, mask):
+        """The edit of the settings of which just one worth is in the mask."""
+        edit = []
+        for setting in range(len(self.sizes)):
+            worths = self.worths_in(mask, setting)
+            if len(worths) == 1:
+                edit.append((setting, worths[0]))
+        return tuple(edit)
+
+    def forced(self, wish):
+        """The edit of all on which the lawful pages with a wish agree; it can be met."""
+        return self._alone(self.with_all(wish))
+
+    def edit_for(self, wish):
+        """The edit of a wish that can be met: itself, and what it forces of all that is not fixed."""
+        still = self.forced(())
+        return tuple([pair for pair in self.forced(wish) if pair in wish or pair not in still])
+
     def pairs(self, i, j):
         """The pairs (worth at i, worth at j) that lawful pages have, rising."""
         pairs = []
@@ -160,3 +191,16 @@ def closed_kept(book):
     if left is None:
         raise NoPage(0)
     return left
+
+
+def must_be_met(left, wish):
+    """Refuse a wish over the book's sizes that cannot be met."""
+    pair = left.bar(wish)
+    if pair is not None:
+        raise CannotMeet(pair)
+
+
+def must_be_lawful(left, page):
+    """Refuse a page over the book's sizes that is not lawful."""
+    if left.bar(whole(page)) is not None:
+        raise NotLawful(0)

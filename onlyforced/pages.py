@@ -1,7 +1,7 @@
-"""Sizes and settings [1], pages [2], and what two or three pages tell [4]."""
+"""Sizes, settings and lots [1], pages [2], and what two or three pages tell [4]."""
 
-from onlyforced.errors import BadPage, BadSetting, BadSizes
-from onlyforced.forms import number_within, tuple_sized
+from onlyforced.errors import BadLot, BadPage, BadSetting, BadSizes
+from onlyforced.forms import number_within, rises, tuple_sized
 
 MOST_SETTINGS = 24
 MOST_WORTHS = 6
@@ -44,6 +44,26 @@ def made_setting(sizes, thing):
     """Return thing, if it is a setting of right sizes."""
     if not setting_of(sizes, thing):
         raise BadSetting(thing)
+    return thing
+
+
+def settings_rise(sizes, thing):
+    """Whether thing is a rising tuple of settings of right sizes, perhaps ()."""
+    if not isinstance(thing, tuple):
+        return False
+    # The parts are compared only once all are settings: others may have no order.
+    return all([setting_of(sizes, part) for part in thing]) and rises(thing)
+
+
+def is_lot(sizes, thing):
+    """Whether thing is a lot of settings of right sizes."""
+    return settings_rise(sizes, thing) and len(thing) > 0
+
+
+def made_lot(sizes, thing):
+    """Return thing, if it is a lot of settings of right sizes."""
+    if not is_lot(sizes, thing):
+        raise BadLot(-1)
     return thing
 
 

@@ -18,6 +18,9 @@ M = ((2, 2, 2), (("either", 0, 0, 1, 0), ("either", 0, 0, 2, 0), ("either", 1, 0
 C = ((2, 2), (("either", 0, 0, 1, 0), ("either", 0, 0, 1, 1)))
 N = ((2, 2), C[1] + (("either", 0, 1, 1, 0), ("either", 0, 1, 1, 1)))
 
+# The book of DOC.md [28].
+H = ((2, 2, 2), (("either", 0, 0, 1, 1), ("either", 1, 0, 2, 1)))
+
 DEEP = 50
 
 
@@ -239,6 +242,67 @@ WRONG_BOOKS = (
     (((3, 2), (("own", 0, (0,)),) * 399 + ("own",)), BadSaying, 399),
     (((1, 1), (("own", 0, (0,)), nested(47, 0))), BadSaying, 1),
 )
+
+
+# Books that no page keeps, for one reason or another.
+NO_PAGE = (
+    N,
+    ((2, 2), (("own", 0, (0,)), ("own", 0, (1,)))),
+    ((3, 3), (("tied", 0, 1, ((0, 0),)), ("tied", 0, 1, ((1, 1),)))),
+    ((2, 2), (("either", 0, 0, 1, 0), ("own", 0, (1,)), ("own", 1, (1,)))),
+)
+
+# What is no pair of a setting and a worth of it over the sizes (3, 2).
+WRONG_CELLS = (
+    None, True, 0, 1, "ab", "00", (), (0,), (0, 0, 0), (2, 0), (-1, 0), (0, 3), (0, -1), (1, 2),
+    (True, 0), (False, 0), (0, True), (0, False), (None, 0), (0, None), ("0", 0), (0, "0"), ((0,), 0),
+    (0, (0,)), (10 ** 50, 0), (0, 10 ** 50), nested(50, 0), (0, nested(49, 0)),
+)
+
+
+def wrong_edits(sizes):
+    """What is no edit over sizes, with what BadEdit tells of it."""
+    most = len(sizes) - 1
+    yield from ((thing, -1) for thing in (None, True, 0, -1, "ab", "", 10 ** 50))
+    yield from ((thing, 0) for thing in (
+        (None,), (0,), (0, 0), ("ab",), ((),), ((0,),), ((0, 0, 0),), ((most + 1, 0),), ((-1, 0),),
+        ((0, sizes[0]),), ((0, -1),), ((0, True),), ((False, 0),), ((0, None),), ((None, 0),), nested(50, 0),
+        (((0,), 0),), ((0, "0"),), ((10 ** 50, 0),), ((24, 0), (0, 0)), (None,) * 90000,
+    ))
+    yield from ((((0, 0), part), 1) for part in (None, (), (0, 0), (0, 1), (-1, 0), (most + 1, 0), nested(48, 0)))
+    yield tuple((at, 0) for at in range(most + 1)) + ((most, 0),), most + 1
+    if most:
+        yield ((most, 0), (0, 0)), 1
+        yield ((0, 0), (most, sizes[most])), 1
+
+
+def wrong_pages(sizes):
+    """What is no page over sizes, with what BadPage tells of it."""
+    page = (0,) * len(sizes)
+    yield from ((thing, -1) for thing in (None, True, 0, "0" * len(sizes), (), page[1:], page + (0,)))
+    for at, many in enumerate(sizes):
+        for worth in (many, -1, True, False, None, "0", (0,), 10 ** 50, nested(49, 0)):
+            yield page[:at] + (worth,) + page[at + 1:], at
+            yield page[:at] + (worth,) * (len(sizes) - at), at
+
+
+def wrong_settings(sizes):
+    """What is no setting of sizes."""
+    return (len(sizes), -1, 24, True, False, None, "0", (), (0,), 10 ** 50, -(10 ** 50), nested(50, 0))
+
+
+def tables_about(source, tables):
+    """Tables, some writable and some not."""
+    for _ in range(tables):
+        if source.random() < 0.6:
+            sizes = tuple(source.randint(2, 3) for _ in range(source.randint(2, 3)))
+            pages = source.sample(all_pages(sizes), source.randint(3, 4 * len(sizes) - 4))
+            yield (sizes, tuple(sorted(pages)))
+            continue
+        book = random_book(source, random_sizes(source, 3), 3)
+        pages = lawful_pages(book)
+        if 1 <= len(pages) <= 16:
+            yield (book[0], tuple(pages))
 
 
 def seeded(number):

@@ -5,15 +5,7 @@ import unittest
 from onlyforced.errors import BadEdit, BadMany, NoPage
 from onlyforced.fills import least_page, pages_of
 from tests.helpers import (
-    C, M, N, WRONG_BOOKS, all_edits, all_pages, exactly, nested, refused, seeded, small_books,
-)
-
-# Books that no page keeps, for one reason or another.
-NO_PAGE = (
-    N,
-    ((2, 2), (("own", 0, (0,)), ("own", 0, (1,)))),
-    ((3, 3), (("tied", 0, 1, ((0, 0),)), ("tied", 0, 1, ((1, 1),)))),
-    ((2, 2), (("either", 0, 0, 1, 0), ("own", 0, (1,)), ("own", 1, (1,)))),
+    C, M, NO_PAGE, WRONG_BOOKS, all_edits, all_pages, exactly, nested, refused, seeded, small_books,
 )
 
 WRONG_MOST = (-1, 201, 10 ** 50, -(10 ** 50), True, False, None, "1", (), (1,), nested(50, 1))

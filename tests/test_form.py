@@ -173,6 +173,34 @@ class FormTest(unittest.TestCase):
             ]
             self.assertEqual(found, [right], text)
 
+    def test_names_begin_as_they_should(self):
+        for path, tree in trees():
+            for node in ast.walk(tree):
+                if isinstance(node, ast.ClassDef):
+                    self.assertRegex(node.name, r"^[A-Za-z]", (path.name, node.lineno))
+                if isinstance(node, (ast.ClassDef, ast.FunctionDef)):
+                    self.assertIsNone(re.match("_(wall|pe_|dcw_|enum_|cm_|lay_|law_|stub_|sre)", node.name), node.name)
+
+    def test_nothing_has_the_name_of_a_class_or_an_import_of_its_file(self):
+        for path, tree in trees():
+            taken = {part.name for part in tree.body if isinstance(part, ast.ClassDef)}
+            taken |= {alias.name for node in imports_of(tree) for alias in node.names}
+            for node in ast.walk(tree):
+                if isinstance(node, ast.arg):
+                    self.assertNotIn(node.arg, taken, (path.name, node.lineno))
+                if isinstance(node, ast.Name) and isinstance(node.ctx, ast.Store):
+                    self.assertNotIn(node.id, taken, (path.name, node.lineno))
+
+    def test_no_name_is_a_method_and_an_attribute(self):
+        methods, attributes = set(), set()
+        for _, tree in trees():
+            for node in ast.walk(tree):
+                if isinstance(node, ast.ClassDef):
+                    methods |= {part.name for part in node.body if isinstance(part, ast.FunctionDef)}
+                if isinstance(node, ast.Attribute) and isinstance(node.ctx, ast.Store):
+                    attributes.add(node.attr)
+        self.assertEqual(methods & attributes, set())
+
     def test_no_floats_and_no_division(self):
         for path, tree in trees():
             for node in ast.walk(tree):

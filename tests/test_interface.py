@@ -4,9 +4,10 @@ import importlib
 import inspect
 import unittest
 
-from tests.helpers import C, M, N, T, exactly
+from tests.helpers import C, H, M, N, T, exactly
 
 T_BOOK = ((3, 2), (("own", 0, (0, 1, 2)), ("own", 1, (0, 1)), ("either", 0, 0, 1, 1)))
+GRANTS = ((((1, 0),), ((1, 0),)), (((0, 1),), ((0, 1), (1, 1))))
 C_TIGHT = ((2, 2), (("own", 0, (0,)), ("own", 1, (0, 1))))
 
 # Each row: the file, the function, its arguments by name, and what it returns for them.
@@ -54,6 +55,29 @@ ROWS = (
     ("closing", "against", {"book": M, "saying": ("own", 2, (0,))}, (0, 0, 1)),
     ("fills", "least_page", {"book": M, "wish": ((1, 1),)}, (0, 1, 0)),
     ("fills", "pages_of", {"book": M, "most": 2}, ((0, 0, 0), (0, 0, 1))),
+    ("meek", "meek_right", {"table": T, "page": (0, 0), "wish": ((0, 1),), "new": (1, 1)}, True),
+    ("meek", "stuck", {"table": T}, None),
+    ("meek", "near", {"table": T, "page": (0, 1), "wish": ((1, 0),)}, ((0, 0),)),
+    ("grants", "made_grants", {"sizes": (3, 2), "thing": GRANTS}, GRANTS),
+    ("grants", "unsafe", {"table": T, "grants": GRANTS}, (0, (1, 1))),
+    (
+        "grants", "run_grants",
+        {"table": T, "page": (0, 1), "many": 2, "grants": GRANTS, "script": (("wish", 1, 0),)},
+        (((0, 1), (0, 1)), ((0, 1), (0, 0))),
+    ),
+    ("forcing", "can_meet", {"book": M, "wish": ((0, 1), (2, 1))}, False),
+    ("forcing", "bar", {"book": M, "wish": ((0, 1), (2, 1))}, (0, 2)),
+    ("forcing", "fixed", {"book": C}, ((0, 0),)),
+    ("forcing", "forced", {"book": C, "wish": ((1, 1),)}, ((0, 0), (1, 1))),
+    ("forcing", "edit_for", {"book": C, "wish": ((1, 1),)}, ((1, 1),)),
+    ("forcing", "reason", {"book": H, "wish": ((0, 1),), "setting": 2}, ("by", 0)),
+    ("forcing", "safe_in", {"book": H, "edit": ((2, 1),)}, True),
+    ("forcing", "breaks_in", {"book": H, "edit": ((1, 1),)}, (0, 0, 0)),
+    ("papers", "out_paper", {"book": M, "one": (0, 1), "two": (1, 0)}, None),
+    ("papers", "none_paper", {"book": ((2,), (("own", 0, (0,)), ("own", 0, (1,))))}, ()),
+    ("hulls", "hull", {"table": T}, T_BOOK),
+    ("hulls", "hull_table", {"table": T}, T),
+    ("hulls", "made_by", {"table": T, "page": (1, 0)}, None),
 )
 
 
