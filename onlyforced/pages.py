@@ -55,14 +55,14 @@ def settings_rise(sizes, thing):
     return all([setting_of(sizes, part) for part in thing]) and rises(thing)
 
 
-def is_lot(sizes, thing):
+def lot_of(sizes, thing):
     """Whether thing is a lot of settings of right sizes."""
     return settings_rise(sizes, thing) and len(thing) > 0
 
 
 def made_lot(sizes, thing):
     """Return thing, if it is a lot of settings of right sizes."""
-    if not is_lot(sizes, thing):
+    if not lot_of(sizes, thing):
         raise BadLot(-1)
     return thing
 

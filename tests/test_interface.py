@@ -4,10 +4,12 @@ import importlib
 import inspect
 import unittest
 
+from onlyforced import houses
 from tests.helpers import C, H, M, N, T, exactly
 
 T_BOOK = ((3, 2), (("own", 0, (0, 1, 2)), ("own", 1, (0, 1)), ("either", 0, 0, 1, 1)))
 GRANTS = ((((1, 0),), ((1, 0),)), (((0, 1),), ((0, 1), (1, 1))))
+WISHES = (((0, 1),), ((1, 1),))
 C_TIGHT = ((2, 2), (("own", 0, (0,)), ("own", 1, (0, 1))))
 
 # Each row: the file, the function, its arguments by name, and what it returns for them.
@@ -75,6 +77,22 @@ ROWS = (
     ("forcing", "breaks_in", {"book": H, "edit": ((1, 1),)}, (0, 0, 0)),
     ("papers", "out_paper", {"book": M, "one": (0, 1), "two": (1, 0)}, None),
     ("papers", "none_paper", {"book": ((2,), (("own", 0, (0,)), ("own", 0, (1,))))}, ()),
+    ("visits", "made_wishes", {"book": M, "thing": WISHES}, WISHES),
+    ("visits", "after", {"book": M, "page": (0, 0, 1), "wishes": WISHES, "visits": (1, 0)}, (1, 0, 0)),
+    ("visits", "changes", {"book": M, "page": (0, 0, 1), "wishes": WISHES, "visits": (1, 0)}, (1, 2, 1)),
+    ("visits", "ends", {"book": M, "page": (0, 0, 1), "wishes": WISHES}, ((0, 1, 0), (1, 0, 0))),
+    ("quarrels", "parting", {"book": M, "one": ((0, 1),), "two": ((2, 1),)}, (0, 2)),
+    ("quarrels", "quarrel", {"book": M, "wishes": WISHES}, (0, 1)),
+    ("quarrels", "fought", {"book": M, "wishes": WISHES}, (0, 1)),
+    ("quarrels", "joint", {"book": M, "wishes": (((0, 1),), ((2, 0),))}, ((0, 1), (1, 0), (2, 0))),
+    ("quarrels", "quiet", {"book": M, "page": (0, 0, 1), "wishes": WISHES}, ((2, 0),)),
+    ("quarrels", "most_content", {"book": M, "wishes": WISHES}, (0,)),
+    ("rowedits", "made_edits", {"sizes": (3, 2), "thing": (((0, 1),),)}, (((0, 1),),)),
+    ("rowedits", "laid_all", {"sizes": (3, 2), "edits": (((0, 1),), ((0, 2),))}, ((0, 2),)),
+    ("rowedits", "same", {"book": M, "one": (((1, 0),),), "two": ()}, False),
+    ("rowedits", "part_page", {"book": M, "one": (((1, 0),),), "two": ()}, (0, 1, 0)),
+    ("letters", "made_row", {"sizes": (3, 2), "lot": (1,), "thing": ((1, 0, (0, 0)),)}, ((1, 0, (0, 0)),)),
+    ("letters", "made_letter", {"sizes": (3, 2), "thing": ((1,), ())}, ((1,), ())),
     ("hulls", "hull", {"table": T}, T_BOOK),
     ("hulls", "hull_table", {"table": T}, T),
     ("hulls", "made_by", {"table": T, "page": (1, 0)}, None),
@@ -116,6 +134,58 @@ class InterfaceTest(unittest.TestCase):
         for file, name, named, _ in ROWS:
             function = self.function(file, name)
             exactly(self, function(**named), function(**named))
+
+
+# Each row: the file, the class or function, its arguments by name, and those that go by name only.
+HOUSES = (
+    ("House", {"book": M, "lot": (0, 2), "page": (0, 0, 1), "number": 4}),
+    ("reopened", {"book": M, "lot": (0, 2), "number": 4, "row": ((0, 0, (0, 0)), (2, 1, (0, 0)))}),
+)
+
+
+class HouseTest(unittest.TestCase):
+    def signature(self, thing):
+        """The names of the parameters that go by place, then those that go by name, with defaults."""
+        parameters = [one for one in inspect.signature(thing).parameters.values() if one.name != "self"]
+        places = [one.name for one in parameters if one.kind == one.POSITIONAL_OR_KEYWORD]
+        named = {one.name: one.default for one in parameters if one.kind == one.KEYWORD_ONLY}
+        self.assertEqual(len(places) + len(named), len(parameters))
+        return places, named
+
+    def test_where_they_stand_and_the_names_of_the_arguments(self):
+        for name, named in HOUSES:
+            thing = getattr(houses, name)
+            self.assertEqual(thing.__module__, "onlyforced.houses")
+            self.assertEqual(self.signature(thing), (list(named), {"sparing": False}))
+        self.assertTrue(inspect.isclass(houses.House))
+        self.assertTrue(inspect.isfunction(houses.reopened))
+
+    def test_each_method_stands_in_the_class_itself(self):
+        wanted = {
+            "wish": (["wish"], {}), "letter": ([], {}), "hear": (["letter"], {"only": None}),
+            "shown": ([], {}), "row": ([], {}), "lot": ([], {}),
+        }
+        for name, told in wanted.items():
+            self.assertTrue(inspect.isfunction(vars(houses.House)[name]), name)
+            self.assertEqual(self.signature(vars(houses.House)[name]), told, name)
+
+    def test_arguments_by_position_and_by_name(self):
+        for name, named in HOUSES:
+            thing = getattr(houses, name)
+            before = repr(named)
+            for house in (
+                thing(*named.values()), thing(**named), thing(**dict(reversed(named.items()))),
+                thing(*named.values(), sparing=False), thing(**named, sparing=False),
+            ):
+                exactly(self, house.row(), ((0, 0, (0, 0)), (2, 1, (0, 0))))
+                letter = house.wish(wish=((0, 1),))
+                exactly(self, letter, ((0, 1, 2), ((0, 1, (1, 4)), (1, 0, (1, 4)), (2, 0, (1, 4)))))
+                exactly(self, house.hear(letter=letter, only=None), ())
+                exactly(self, house.hear(letter=((0, 1, 2), ((0, 0, (9, 9)),)), only=(0,)), (0,))
+                exactly(self, house.lot(), (0, 2))
+                exactly(self, house.shown(), ((0, 0), (2, 0)))
+                exactly(self, house.letter(), ((0, 2), ((0, 0, (9, 9)), (2, 0, (1, 4)))))
+            self.assertEqual(repr(named), before)
 
 
 if __name__ == "__main__":
