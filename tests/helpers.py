@@ -186,6 +186,13 @@ def small_books(source, many=500):
         yield book, lawful_pages(book)
 
 
+def books_of_two_sayings():
+    """All books of two sayings over small sizes, each with its pages; not every one has some."""
+    for sizes in ((3,), (2, 2), (2, 3)):
+        for sayings in itertools.product(all_sayings(sizes), repeat=2):
+            yield (sizes, sayings), lawful_pages((sizes, sayings))
+
+
 def tight_told(sizes, pages):
     """The tight book of just these pages, as [21] tells it."""
     sayings = []

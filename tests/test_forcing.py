@@ -12,7 +12,7 @@ from onlyforced.judge import book_of
 from onlyforced.safe import least_edits
 from onlyforced.tables import forced_of
 from tests.helpers import (
-    C, H, M, NO_PAGE, WRONG_BOOKS, all_edits, all_pages, all_sayings, exactly, lawful_pages, refused, seeded,
+    C, H, M, NO_PAGE, WRONG_BOOKS, all_edits, all_pages, books_of_two_sayings, exactly, refused, seeded,
     small_books, tables_about, wrong_edits, wrong_settings,
 )
 
@@ -110,11 +110,9 @@ class EditTest(unittest.TestCase):
             self.judge(book, pages)
 
     def test_all_books_of_two_sayings(self):
-        for sizes in ((3,), (2, 2), (2, 3)):
-            for sayings in itertools.product(all_sayings(sizes), repeat=2):
-                pages = lawful_pages((sizes, sayings))
-                if pages:
-                    self.judge((sizes, sayings), pages)
+        for book, pages in books_of_two_sayings():
+            if pages:
+                self.judge(book, pages)
 
     def test_the_empty_wish_has_the_empty_edit(self):
         for book, pages in kept_books(272, 200):
@@ -214,11 +212,9 @@ class SafeTest(unittest.TestCase):
         self.assertGreater(min(told), 2000)
 
     def test_all_books_of_two_sayings(self):
-        for sizes in ((3,), (2, 2), (2, 3)):
-            for sayings in itertools.product(all_sayings(sizes), repeat=2):
-                pages = lawful_pages((sizes, sayings))
-                if pages:
-                    self.judge((sizes, sayings), pages)
+        for book, pages in books_of_two_sayings():
+            if pages:
+                self.judge(book, pages)
 
     def test_the_edit_of_a_wish_is_safe_and_within_each_safe_one(self):
         for book, pages in kept_books(283, 100):

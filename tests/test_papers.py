@@ -6,7 +6,7 @@ import unittest
 from onlyforced.errors import BadWorth, HasPage
 from onlyforced.papers import none_paper, out_paper
 from tests.helpers import (
-    C, H, M, N, NO_PAGE, Quick, WRONG_BOOKS, WRONG_CELLS, all_sayings, exactly, lawful_pages, random_book,
+    C, H, M, N, NO_PAGE, Quick, WRONG_BOOKS, WRONG_CELLS, books_of_two_sayings, exactly, lawful_pages, random_book,
     random_saying, random_sizes, refused, seeded, small_books,
 )
 
@@ -105,9 +105,8 @@ class OutPaperTest(unittest.TestCase):
         self.assertGreater(min(told), 30)
 
     def test_all_books_of_two_sayings(self):
-        for sizes in ((3,), (2, 2), (2, 3)):
-            for sayings in itertools.product(all_sayings(sizes), repeat=2):
-                self.judge((sizes, sayings), lawful_pages((sizes, sayings)))
+        for book, pages in books_of_two_sayings():
+            self.judge(book, pages)
 
     def test_random_books_of_three_sayings_of_two_settings(self):
         source = seeded(292)
