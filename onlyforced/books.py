@@ -7,11 +7,11 @@ from onlyforced.pages import is_page, is_sizes, made_page, made_sizes, setting_o
 MOST_SAYINGS = 400
 
 
-def _own_right(sizes, parts):
-    """Whether parts are what stands behind "own"."""
-    if len(parts) != 2:
+def _own_right(sizes, saying):
+    """Whether a tuple that begins with "own" is a saying."""
+    if len(saying) != 3:
         return False
-    setting, worths = parts
+    _, setting, worths = saying
     if not setting_of(sizes, setting) or not isinstance(worths, tuple) or not worths:
         return False
     return all([worth_of(sizes, setting, worth) for worth in worths]) and rises(worths)
@@ -27,11 +27,11 @@ def _worth_pair(sizes, i, j, thing):
     return plain_pair(thing) and worth_of(sizes, i, thing[0]) and worth_of(sizes, j, thing[1])
 
 
-def _tied_right(sizes, parts):
-    """Whether parts are what stands behind "tied"."""
-    if len(parts) != 3:
+def _tied_right(sizes, saying):
+    """Whether a tuple that begins with "tied" is a saying."""
+    if len(saying) != 4:
         return False
-    i, j, pairs = parts
+    _, i, j, pairs = saying
     if not _settings_rise(sizes, i, j) or not isinstance(pairs, tuple) or not pairs:
         return False
     if not all([_worth_pair(sizes, i, j, pair) for pair in pairs]):
@@ -40,11 +40,11 @@ def _tied_right(sizes, parts):
     return rises([a for a, b in pairs]) and len({b for a, b in pairs}) == len(pairs)
 
 
-def _either_right(sizes, parts):
-    """Whether parts are what stands behind "either"."""
-    if len(parts) != 4:
+def _either_right(sizes, saying):
+    """Whether a tuple that begins with "either" is a saying."""
+    if len(saying) != 5:
         return False
-    i, a, j, b = parts
+    _, i, a, j, b = saying
     return _settings_rise(sizes, i, j) and worth_of(sizes, i, a) and worth_of(sizes, j, b)
 
 
@@ -52,11 +52,11 @@ def saying_right(sizes, thing):
     """Whether thing is a saying over right sizes."""
     if not isinstance(thing, tuple) or not thing:
         return False
+    if thing[0] == "either":
+        return _either_right(sizes, thing)
     if thing[0] == "own":
-        return _own_right(sizes, thing[1:])
-    if thing[0] == "tied":
-        return _tied_right(sizes, thing[1:])
-    return thing[0] == "either" and _either_right(sizes, thing[1:])
+        return _own_right(sizes, thing)
+    return thing[0] == "tied" and _tied_right(sizes, thing)
 
 
 def is_saying(sizes, thing):

@@ -4,7 +4,7 @@ from itertools import combinations
 
 from onlyforced.books import made_book, saying_right
 from onlyforced.errors import BadSaying, Unlike
-from onlyforced.leads import closed
+from onlyforced.leads import closed, mask_of, pairs_in, spot_of, worth_in
 from onlyforced.sorts import sort_of
 
 
@@ -30,20 +30,69 @@ def book_from(sizes, pairs):
     return (sizes, tuple(sayings))
 
 
+def _eithers(i, worths, leds, covers):
+    """The either sayings of i and further settings, under the further ones.
+
+    One worth of i leads nowhere there, and all others to the same worth.
+    """
+    found = {}
+    for at, a in enumerate(worths):
+        led = ~covers[at]
+        for other in leds[:at] + leds[at + 1:]:
+            led &= other
+        for j, b in pairs_in(led):
+            found[j] = ("either", i, a, j, b)
+    return found
+
+
+def _ties(i, worths, leds, covers):
+    """The tied sayings of i and further settings, under the further ones: all worths of i lead there."""
+    everywhere = covers[0]
+    for cover in covers:
+        everywhere &= cover
+    found = {}
+    # One worth leads to just one of each of these settings.
+    for j, _ in pairs_in(leds[0] & everywhere):
+        found[j] = ("tied", i, j, tuple([(a, worth_in(led, j)) for a, led in zip(worths, leds)]))
+    return found
+
+
+def _sayings_beyond(left, i, worths, beyond):
+    """The sayings of a tight book of i and the settings of which beyond has the worths."""
+    leds = [left.led(spot_of(i, a)) & beyond for a in worths]
+    if not any(leds):
+        return []
+    covers = [led | left.away(spot_of(i, a)) & beyond for a, led in zip(worths, leds)]
+    found = _eithers(i, worths, leds, covers)
+    found.update(_ties(i, worths, leds, covers))
+    return [found[j] for j in sorted(found)]
+
+
 def tight(book):
     """The tight book that the same pages keep, None if no page does."""
     left = closed(made_book(book))
     if left is None:
         return None
-    settings = range(len(left.sizes))
-    return book_from(left.sizes, {(i, j): left.pairs(i, j) for i in settings for j in settings if i <= j})
+    worths = [tuple(left.worths(i)) for i in range(len(left.sizes))]
+    sayings = [("own", i, told) for i, told in enumerate(worths)]
+    # A fixed setting is free beside all others.
+    loose = [(i, told) for i, told in enumerate(worths) if len(told) > 1]
+    beyond = sum([mask_of(i, told) for i, told in loose])
+    for i, told in loose:
+        beyond &= ~mask_of(i, told)
+        sayings += _sayings_beyond(left, i, told, beyond)
+    return (left.sizes, tuple(sayings))
 
 
 def alike(one, two):
     """Whether the same pages keep two books."""
     if made_book(one)[0] != made_book(two)[0]:
         raise Unlike(0)
-    return tight(one) == tight(two)
+    left, other = closed(one), closed(two)
+    if left is None or other is None:
+        return left is None and other is None
+    # Which worths stand together, two by two, tells all pages.
+    return left.standing() == other.standing()
 
 
 def _own_breaches(sizes, saying):
@@ -74,18 +123,24 @@ def _breaches(sizes, saying):
     return _either_breaches(sizes, saying)
 
 
-def against(book, saying):
-    """The least page that keeps the book and not the saying, None if there is none."""
+def _met_breaches(book, saying):
+    """What is left of the book, and those breaches of a saying that lawful pages have."""
     sizes, _ = made_book(book)
     if not saying_right(sizes, saying):
         raise BadSaying(0)
     left = closed(book)
     if left is None:
-        return None
-    pages = [left.least_page(edit) for edit in _breaches(sizes, saying)]
-    return min([page for page in pages if page is not None], default=None)
+        return left, []
+    return left, [edit for edit in _breaches(sizes, saying) if left.can_meet(edit)]
+
+
+def against(book, saying):
+    """The least page that keeps the book and not the saying, None if there is none."""
+    left, breaches = _met_breaches(book, saying)
+    return min([left.least_page(edit) for edit in breaches], default=None)
 
 
 def follows(book, saying):
     """Whether all pages that keep the book keep the saying."""
-    return against(book, saying) is None
+    _, breaches = _met_breaches(book, saying)
+    return not breaches

@@ -19,4 +19,4 @@ def pages_of(book, most):
     left = closed_kept(book)
     if not number_within(most, 0, MOST_TOLD):
         raise BadMany(most)
-    return left.least_pages((), most)
+    return left.least_pages(most)

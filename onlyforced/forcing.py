@@ -1,7 +1,7 @@
 """Which wishes of a book can be met [26], what they force [27], why, and what is safe [28]."""
 
 from onlyforced.edits import made_edit, tells
-from onlyforced.leads import closed_kept, must_be_met
+from onlyforced.leads import CLASH, closed_kept, must_be_met, pairs_in
 from onlyforced.pages import made_setting
 
 
@@ -13,7 +13,8 @@ def bar(book, wish):
 
 def can_meet(book, wish):
     """Whether some lawful page has all worths of the wish."""
-    return bar(book, wish) is None
+    left = closed_kept(book)
+    return left.can_meet(made_edit(left.sizes, wish))
 
 
 def fixed(book):
@@ -57,15 +58,16 @@ def breaks_in(book, edit):
     """Some lawful page that is not lawful with the edit laid over it, None if the edit is safe."""
     left = closed_kept(book)
     made_edit(left.sizes, edit)
-    if left.bar(edit) is not None:
+    led = left.led_by(edit)
+    if led == CLASH:
         return left.least_page(())
     # What else stands on a page is as it was, so one worth that does not stand beside the edit
     # has to be there.
-    lost = left.with_all(()) & ~left.with_all(edit)
-    for setting in range(len(left.sizes)):
-        for worth in left.worths_in(lost, setting):
-            if not tells(edit, setting):
-                return left.least_page(((setting, worth),))
+    for setting, worth in pairs_in(led):
+        if not tells(edit, setting):
+            for other in left.worths(setting):
+                if other != worth:
+                    return left.least_page(((setting, other),))
     return None
 
 

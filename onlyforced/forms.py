@@ -3,12 +3,12 @@
 
 def plain_number(thing):
     """Whether thing is a number: an int that is neither True nor False."""
-    return isinstance(thing, int) and not isinstance(thing, bool)
+    return type(thing) is int
 
 
 def number_within(thing, low, high):
     """Whether thing is a number from low to high, both included."""
-    return plain_number(thing) and low <= thing <= high
+    return type(thing) is int and low <= thing <= high
 
 
 def plain_pair(thing):
@@ -23,4 +23,7 @@ def tuple_sized(thing, low, high):
 
 def rises(parts):
     """Whether each part is greater than the one ahead of it; all can be compared."""
-    return all([one < two for one, two in zip(parts, parts[1:])])
+    for one, two in zip(parts, parts[1:]):
+        if one >= two:
+            return False
+    return True

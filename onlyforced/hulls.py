@@ -38,7 +38,7 @@ def hull(table):
 def hull_table(table):
     """The hull as a table."""
     sizes, pages = made_table(table)
-    more = closed(_hull_of(sizes, pages)).least_pages((), MOST_PAGES + 1)
+    more = closed(_hull_of(sizes, pages)).least_pages(MOST_PAGES + 1)
     if len(more) > MOST_PAGES:
         raise TooMany(MOST_PAGES + 1)
     return (sizes, more)

@@ -62,7 +62,7 @@ def _told(table):
             return None, _three_at(pages, i, j)
     book = book_from(sizes, pairs)
     # All pages of the table keep the book. If others do, one is among the first of one more.
-    for page in closed(book).least_pages((), len(pages) + 1):
+    for page in closed(book).least_pages(len(pages) + 1):
         if page not in pages:
             return None, _three_to(pages, page)
     return book, None

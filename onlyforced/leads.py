@@ -9,6 +9,12 @@ from onlyforced.edits import whole
 from onlyforced.errors import CannotMeet, NoPage, NotLawful
 from onlyforced.pages import MOST_WORTHS
 
+# What a worth leads to that is on no lawful page: each bit is set, so it clashes with all else.
+CLASH = -1
+
+# The bits of one setting, brought down to the lowest ones.
+FIELD = 63
+
 
 def spot_of(setting, worth):
     """The number of the bit that tells of this worth of the setting."""
@@ -19,170 +25,262 @@ def mask_of(setting, worths):
     """The mask of these worths of the setting."""
     mask = 0
     for worth in worths:
+        mask |= 1 << worth
+    return mask << spot_of(setting, 0)
+
+
+def pairs_in(mask):
+    """The pairs (setting, worth) that are in the mask, rising."""
+    pairs = []
+    while mask:
+        low = mask & -mask
+        pairs.append(divmod(low.bit_length() - 1, MOST_WORTHS))
+        mask ^= low
+    return pairs
+
+
+def worth_in(mask, setting):
+    """The greatest worth of the setting that is in the mask, -1 if none is."""
+    return (mask >> spot_of(setting, 0) & FIELD).bit_length() - 1
+
+
+def _lowest(mask):
+    """The number of the lowest bit of a mask that has one."""
+    return (mask & -mask).bit_length() - 1
+
+
+def _worths_from(mask, low, high):
+    """The worths in the mask of the settings from low to the one below high, of each the greatest."""
+    spots = range(spot_of(low, 0), spot_of(high, 0), MOST_WORTHS)
+    return tuple([(mask >> spot & FIELD).bit_length() - 1 for spot in spots])
+
+
+def mask_with(edit):
+    """The mask of the pairs of an edit."""
+    mask = 0
+    for setting, worth in edit:
         mask |= 1 << spot_of(setting, worth)
     return mask
 
 
-def _let(saying):
-    """Pairs of a setting, and all worths of it that the saying by itself lets a page have."""
-    if saying[0] == "own":
-        return [(saying[1], saying[2])]
-    if saying[0] == "tied":
-        pairs = saying[3]
-        return [(saying[1], [a for a, b in pairs]), (saying[2], [b for a, b in pairs])]
-    return []
+def rows_of(sizes):
+    """For each setting the mask of all its worths."""
+    return [((1 << many) - 1) << spot_of(setting, 0) for setting, many in enumerate(sizes)]
 
 
-def _barred(sizes, sayings):
-    """The mask of the worths that some saying by itself lets no page have."""
+def _said(sizes, sayings, rows):
+    """What the sayings by themselves tell of each spot, and the mask of the spots they let be.
+
+    In the first list stands what the spot leads to by tied sayings, in the second one what the
+    other spots of its setting lead to by either sayings.
+    """
+    tied = [0] * spot_of(len(sizes), 0)
+    others = list(tied)
     barred = 0
     for saying in sayings:
-        for setting, worths in _let(saying):
-            barred |= mask_of(setting, [worth for worth in range(sizes[setting]) if worth not in worths])
-    return barred
+        if saying[0] == "either":
+            _, i, a, j, b = saying
+            one, two = spot_of(i, a), spot_of(j, b)
+            others[one] |= 1 << two
+            others[two] |= 1 << one
+        elif saying[0] == "own":
+            _, i, worths = saying
+            barred |= rows[i] & ~mask_of(i, worths)
+        else:
+            _, i, j, pairs = saying
+            barred |= rows[i] & ~mask_of(i, [a for a, b in pairs])
+            barred |= rows[j] & ~mask_of(j, [b for a, b in pairs])
+            for a, b in pairs:
+                one, two = spot_of(i, a), spot_of(j, b)
+                tied[one] |= 1 << two
+                tied[two] |= 1 << one
+    return tied, others, barred
 
 
-def steps_of(sizes, saying):
-    """Tuples (i, a, j, b): by the saying the worth a of i leads to the worth b of j."""
-    if saying[0] == "tied":
-        i, j = saying[1], saying[2]
-        return [(i, a, j, b) for a, b in saying[3]] + [(j, b, i, a) for a, b in saying[3]]
-    if saying[0] == "either":
-        _, i, a, j, b = saying
-        forth = [(i, worth, j, b) for worth in range(sizes[i]) if worth != a]
-        return forth + [(j, worth, i, a) for worth in range(sizes[j]) if worth != b]
-    return []
-
-
-def _leads(sizes, sayings):
-    """For each spot the mask of all that its worth leads to, itself among them."""
-    leads = [1 << spot for spot in range(spot_of(len(sizes), 0))]
-    for saying in sayings:
-        for i, a, j, b in steps_of(sizes, saying):
-            leads[spot_of(i, a)] |= mask_of(j, [b])
-    # Behind each round all is there that is led to by way of the spots up to this one.
-    for way in range(len(leads)):
-        for spot in range(len(leads)):
-            if leads[spot] >> way & 1:
-                leads[spot] |= leads[way]
-    return leads
-
-
-def _quarrels(led, rows):
-    """Whether two worths of one setting are in the mask led."""
-    # A number has one bit at most exactly if it shares none with the number one below.
-    return any([led & row & ((led & row) - 1) for row in rows])
-
-
-def _stands(led, left, rows):
-    """The mask of what is left and stands together with the worth that leads to led.
-
-    That is so for all worths but the others of the settings to which it leads. The worths that
-    it leads away from lead away from it, too, so to look from one side is enough.
-    """
-    stands = 0
-    for row in rows:
-        stands |= led & row or left & row
-    return stands
+def _first_steps(sizes, tied, others):
+    """For each spot the mask of what it leads to by one saying."""
+    steps = tied
+    for setting, many in enumerate(sizes):
+        spots = range(spot_of(setting, 0), spot_of(setting, many))
+        named = [spot for spot in spots if others[spot]]
+        for two in named:
+            for spot in spots:
+                if spot != two:
+                    steps[spot] |= others[two]
+    return steps
 
 
 class Left:
-    """The worths that lawful pages have, and for each one those that stand together with it.
+    """The worths that lawful pages have, and for each one what it leads to.
 
     Worths of which each two stand together on some lawful page stand all together on one [25].
+    What a worth leads to is followed once it is asked for.
     """
 
-    def __init__(self, sizes, left, beside):
+    def __init__(self, sizes, sayings):
         self.sizes = sizes
-        self._left = left
-        self._beside = beside
+        rows = rows_of(sizes)
+        tied, others, barred = _said(sizes, sayings, rows)
+        self._steps = _first_steps(sizes, tied, others)
+        self._led = [1 << spot for spot in range(len(tied))]
+        self._away = [rows[spot // MOST_WORTHS] & ~(1 << spot) for spot in range(len(tied))]
+        for setting, worth in pairs_in(barred):
+            spot = spot_of(setting, worth)
+            self._led[spot], self._away[spot], self._steps[spot] = CLASH, CLASH, 0
+        self._firsts = self._first_left()
+        self._fixed = None
 
-    def with_all(self, wish):
-        """The mask of the worths that stand together with each pair of the wish.
+    def _gather(self, spot):
+        """Put together all that a spot leads to, and all that this leads away from."""
+        led, away = self._led[spot], self._away[spot]
+        todo = self._steps[spot]
+        while todo:
+            there = todo.bit_length() - 1
+            led |= self._led[there]
+            away |= self._away[there]
+            if led & away:
+                led = away = CLASH
+            todo = (todo | self._steps[there]) & ~led
+        self._led[spot], self._away[spot], self._steps[spot] = led, away, 0
 
-        If the wish cannot be met, it has none for some setting of the wish.
+    def _follow(self, start):
+        """Gather what start and all spots that it leads to lead to.
+
+        A spot is gathered behind those that it leads to, unless they lead back to it, so that
+        most of it has been put together already.
         """
-        mask = self._left
+        path = [start]
+        met = 1 << start
+        while path:
+            ahead = self._steps[path[-1]] & ~met
+            if ahead:
+                there = ahead.bit_length() - 1
+                met |= 1 << there
+                if self._steps[there]:
+                    path.append(there)
+            else:
+                self._gather(path.pop())
+
+    def led(self, spot):
+        """The mask of all that a spot leads to, itself among it; CLASH if no lawful page has it."""
+        if self._steps[spot]:
+            self._follow(spot)
+        return self._led[spot]
+
+    def away(self, spot):
+        """The mask of all other worths of the settings to which a spot leads, or CLASH."""
+        if self._steps[spot]:
+            self._follow(spot)
+        return self._away[spot]
+
+    def worths(self, setting):
+        """The worths that lawful pages have at the setting, rising."""
+        return [worth for worth in range(self.sizes[setting]) if self.led(spot_of(setting, worth)) != CLASH]
+
+    def _first_left(self):
+        """The mask of the first worth of each setting that is left, 0 if one has none."""
+        firsts = 0
+        for setting, many in enumerate(self.sizes):
+            for spot in range(spot_of(setting, 0), spot_of(setting, many)):
+                if self.led(spot) != CLASH:
+                    firsts |= 1 << spot
+                    break
+            else:
+                return 0
+        return firsts
+
+    def has_page(self):
+        """Whether some page keeps the book."""
+        return self._firsts != 0
+
+    def fixed_mask(self):
+        """The mask of the worths that are alone at their settings."""
+        if self._fixed is None:
+            self._fixed = 0
+            for setting, worth in pairs_in(self._firsts):
+                above = range(spot_of(setting, worth + 1), spot_of(setting, self.sizes[setting]))
+                if all([self.led(spot) == CLASH for spot in above]):
+                    self._fixed |= 1 << spot_of(setting, worth)
+        return self._fixed
+
+    def led_by(self, wish):
+        """The mask of all that the pairs of the wish lead to, CLASH if it cannot be met."""
+        return self._reached(wish)[0]
+
+    def _reached(self, wish):
+        """What `led` and `away` of all pairs of the wish are together."""
+        led = away = 0
         for setting, worth in wish:
-            mask &= self._beside[spot_of(setting, worth)]
-        return mask
+            led |= self.led(spot_of(setting, worth))
+            away |= self.away(spot_of(setting, worth))
+        return (CLASH, CLASH) if led & away else (led, away)
 
-    def worths_in(self, mask, setting):
-        """The worths of the setting that are in the mask, rising."""
-        return [worth for worth in range(self.sizes[setting]) if mask >> spot_of(setting, worth) & 1]
+    def can_meet(self, wish):
+        """Whether some lawful page has all worths of the wish."""
+        return self.led_by(wish) != CLASH
 
-    def stand(self, one, two):
-        """Whether some lawful page has both of two pairs, each of a setting and a worth of it."""
-        return self._beside[spot_of(one[0], one[1])] >> spot_of(two[0], two[1]) & 1 == 1
+    def standing(self):
+        """For each worth of each setting those of the worths left that stand together with it."""
+        left = sum([mask_of(setting, self.worths(setting)) for setting in range(len(self.sizes))])
+        spots = [spot_of(setting, worth) for setting, many in enumerate(self.sizes) for worth in range(many)]
+        return [left & ~self.away(spot) for spot in spots]
 
     def bar(self, wish):
         """The least pair of the wish's settings that no lawful page has so, None if all are met."""
+        if self.can_meet(wish):
+            return None
         for at, one in enumerate(wish):
             for two in wish[at:]:
-                if not self.stand(one, two):
+                if not self.can_meet((one, two)):
                     return (one[0], two[0])
-        return None
-
-    def _alone(self, mask):
-        """The edit of the settings of which just one worth is in the mask."""
-        edit = []
-        for setting in range(len(self.sizes)):
-            worths = self.worths_in(mask, setting)
-            if len(worths) == 1:
-                edit.append((setting, worths[0]))
-        return tuple(edit)
 
     def forced(self, wish):
         """The edit of all on which the lawful pages with a wish agree; it can be met."""
-        return self._alone(self.with_all(wish))
+        return tuple(pairs_in(self.led_by(wish) | self.fixed_mask()))
 
     def edit_for(self, wish):
         """The edit of a wish that can be met: itself, and what it forces of all that is not fixed."""
-        still = self.forced(())
-        return tuple([pair for pair in self.forced(wish) if pair in wish or pair not in still])
-
-    def pairs(self, i, j):
-        """The pairs (worth at i, worth at j) that lawful pages have, rising."""
-        pairs = []
-        for a in self.worths_in(self._left, i):
-            pairs += [(a, b) for b in self.worths_in(self.with_all(((i, a),)), j)]
-        return tuple(pairs)
-
-    def least_pages(self, wish, most):
-        """The least lawful pages with the wish, rising, as many as most tells."""
-        begun = [((), self.with_all(wish))]
-        for setting in range(len(self.sizes)):
-            longer = []
-            for page, mask in begun:
-                for worth in self.worths_in(mask, setting):
-                    beside = self._beside[spot_of(setting, worth)]
-                    longer.append((page + (worth,), mask & beside))
-            # Each of these goes on to some page, so the first ones are enough.
-            begun = longer[:most]
-        return tuple([page for page, mask in begun])
+        return tuple(pairs_in(self.led_by(wish) & ~self.fixed_mask() | mask_with(wish)))
 
     def least_page(self, wish):
         """The least lawful page with the wish, None if there is none."""
-        pages = self.least_pages(wish, 1)
-        return pages[0] if pages else None
+        led, away = self._reached(wish)
+        if led == CLASH:
+            return None
+        # What has not been led to stands together with all that has, so the first worth can be taken.
+        rest = self._firsts & ~(led | away)
+        while rest:
+            spot = _lowest(rest)
+            led |= self._led[spot]
+            away |= self._away[spot]
+            rest = self._firsts & ~(led | away)
+        return _worths_from(led, 0, len(self.sizes))
+
+    def least_pages(self, most):
+        """The least lawful pages, rising, as many as most tells."""
+        pages = []
+        told = [self.worths(setting) for setting in range(len(self.sizes))]
+        left = sum([mask_of(setting, worths) for setting, worths in enumerate(told)])
+        begun = [((), 0, 0)]
+        # The page that is begun last is the least one, and each goes on to some page.
+        while begun and len(pages) < most:
+            page, led, away = begun.pop()
+            rest = left & ~(led | away)
+            if rest:
+                setting = _lowest(rest) // MOST_WORTHS
+                page = page + _worths_from(led, len(page), setting)
+                for worth in told[setting][::-1]:
+                    spot = spot_of(setting, worth)
+                    begun.append((page, led | self._led[spot], away | self._away[spot]))
+            else:
+                pages.append(page + _worths_from(led, len(page), len(self.sizes)))
+        return tuple(pages)
 
 
 def closed(book):
     """What is left of a right book, None if no page keeps it."""
-    sizes, sayings = book
-    rows = [mask_of(setting, list(range(many))) for setting, many in enumerate(sizes)]
-    leads = _leads(sizes, sayings)
-    barred = _barred(sizes, sayings)
-    left = 0
-    for setting, many in enumerate(sizes):
-        for worth in range(many):
-            led = leads[spot_of(setting, worth)]
-            if not led & barred and not _quarrels(led, rows):
-                left |= mask_of(setting, [worth])
-    if not all([left & row for row in rows]):
-        return None
-    beside = [_stands(led, left, rows) if left >> spot & 1 else 0 for spot, led in enumerate(leads)]
-    return Left(sizes, left, beside)
+    left = Left(*book)
+    return left if left.has_page() else None
 
 
 def closed_kept(book):

@@ -32,12 +32,12 @@ def is_sizes(thing):
 
 def setting_of(sizes, thing):
     """Whether thing is a setting of right sizes."""
-    return number_within(thing, 0, len(sizes) - 1)
+    return type(thing) is int and 0 <= thing < len(sizes)
 
 
 def worth_of(sizes, setting, thing):
     """Whether thing is a worth of a setting of right sizes."""
-    return number_within(thing, 0, sizes[setting] - 1)
+    return type(thing) is int and 0 <= thing < sizes[setting]
 
 
 def made_setting(sizes, thing):

@@ -3,7 +3,19 @@
 from onlyforced.books import made_book
 from onlyforced.edits import has_worth
 from onlyforced.errors import BadWorth, HasPage
-from onlyforced.leads import closed, steps_of
+from onlyforced.leads import closed
+
+
+def _steps_of(sizes, saying):
+    """Tuples (i, a, j, b): by the saying the worth a of i leads to the worth b of j."""
+    if saying[0] == "tied":
+        i, j, pairs = saying[1:]
+        return [(i, a, j, b) for a, b in pairs] + [(j, b, i, a) for a, b in pairs]
+    if saying[0] == "either":
+        i, a, j, b = saying[1:]
+        forth = [(i, worth, j, b) for worth in range(sizes[i]) if worth != a]
+        return forth + [(j, worth, i, a) for worth in range(sizes[j]) if worth != b]
+    return []
 
 
 def _barred_by(sizes, saying):
@@ -31,7 +43,7 @@ class Trails:
         self._leads = {(i, a): [] for i, many in enumerate(sizes) for a in range(many)}
         self._barred = {}
         for saying in sayings:
-            for i, a, j, b in steps_of(sizes, saying):
+            for i, a, j, b in _steps_of(sizes, saying):
                 self._leads[(i, a)].append((j, b))
             for i, a, steps in _barred_by(sizes, saying):
                 self._barred[(i, a)] = steps
@@ -139,7 +151,7 @@ def out_paper(book, one, two):
         if not has_worth(sizes, thing):
             raise BadWorth(which)
     left = closed(book)
-    if left is not None and left.stand(one, two):
+    if left is not None and left.can_meet((one, two)):
         return None
     return _once(_out_steps(Trails(sizes, sayings), sizes, one, two))
 

@@ -34,7 +34,7 @@ def part_page(book, one, two):
     first, second = laid_all(left.sizes, one), laid_all(left.sizes, two)
     # What they leave at a setting is told by the worth there, so a page for each worth is enough.
     for setting in range(len(left.sizes)):
-        for worth in left.worths_in(left.with_all(()), setting):
+        for worth in left.worths(setting):
             page = left.least_page(((setting, worth),))
             if over(page, first) != over(page, second):
                 return page
