@@ -4,7 +4,8 @@ from itertools import combinations
 
 from onlyforced.books import made_book, saying_right
 from onlyforced.errors import BadSaying, Unlike
-from onlyforced.leads import closed, mask_of, pairs_in, spot_of, worth_in
+from onlyforced.leads import closed, pairs_in, worth_in
+from onlyforced.pages import mask_of, spot_of
 from onlyforced.sorts import sort_of
 
 
@@ -68,11 +69,8 @@ def _sayings_beyond(left, i, worths, beyond):
     return [found[j] for j in sorted(found)]
 
 
-def tight(book):
-    """The tight book that the same pages keep, None if no page does."""
-    left = closed(made_book(book))
-    if left is None:
-        return None
+def tight_of(left):
+    """The tight book of what is left of a book that some page keeps."""
     worths = [tuple(left.worths(i)) for i in range(len(left.sizes))]
     sayings = [("own", i, told) for i, told in enumerate(worths)]
     # A fixed setting is free beside all others.
@@ -82,6 +80,12 @@ def tight(book):
         beyond &= ~mask_of(i, told)
         sayings += _sayings_beyond(left, i, told, beyond)
     return (left.sizes, tuple(sayings))
+
+
+def tight(book):
+    """The tight book that the same pages keep, None if no page does."""
+    left = closed(made_book(book))
+    return None if left is None else tight_of(left)
 
 
 def alike(one, two):

@@ -1,32 +1,15 @@
-"""What worths lead to, and what is left of a book when that is followed [23].
-
-Several worths, each of some setting, are kept together as one number, a mask: its bit number
-spot_of(i, a) tells whether the worth a of the setting i is among them.
-"""
+"""What worths lead to, and what is left of a book when that is followed [23]."""
 
 from onlyforced.books import made_book
 from onlyforced.edits import whole
 from onlyforced.errors import CannotMeet, NoPage, NotLawful
-from onlyforced.pages import MOST_WORTHS
+from onlyforced.pages import MOST_WORTHS, mask_of, rows_of, spot_of
 
 # What a worth leads to that is on no lawful page: each bit is set, so it clashes with all else.
 CLASH = -1
 
 # The bits of one setting, brought down to the lowest ones.
 FIELD = 63
-
-
-def spot_of(setting, worth):
-    """The number of the bit that tells of this worth of the setting."""
-    return setting * MOST_WORTHS + worth
-
-
-def mask_of(setting, worths):
-    """The mask of these worths of the setting."""
-    mask = 0
-    for worth in worths:
-        mask |= 1 << worth
-    return mask << spot_of(setting, 0)
 
 
 def pairs_in(mask):
@@ -61,11 +44,6 @@ def mask_with(edit):
     for setting, worth in edit:
         mask |= 1 << spot_of(setting, worth)
     return mask
-
-
-def rows_of(sizes):
-    """For each setting the mask of all its worths."""
-    return [((1 << many) - 1) << spot_of(setting, 0) for setting, many in enumerate(sizes)]
 
 
 def _said(sizes, sayings, rows):

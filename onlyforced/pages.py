@@ -1,4 +1,8 @@
-"""Sizes, settings and lots [1], pages [2], and what two or three pages tell [4]."""
+"""Sizes, settings and lots [1], pages [2], and what two or three pages tell [4].
+
+Several worths, each of some setting, are kept together as one number, a mask: its bit number
+spot_of(i, a) tells whether the worth a of the setting i is among them.
+"""
 
 from onlyforced.errors import BadLot, BadPage, BadSetting, BadSizes
 from onlyforced.forms import number_within, rises, tuple_sized
@@ -98,3 +102,21 @@ def changed(x, y):
 def move(x, y, z):
     """The page with the worths of x where x and y agree, and of z elsewhere."""
     return tuple([a if a == b else c for a, b, c in zip(x, y, z)])
+
+
+def spot_of(setting, worth):
+    """The number of the bit that tells of this worth of the setting."""
+    return setting * MOST_WORTHS + worth
+
+
+def mask_of(setting, worths):
+    """The mask of these worths of the setting."""
+    mask = 0
+    for worth in worths:
+        mask |= 1 << worth
+    return mask << spot_of(setting, 0)
+
+
+def rows_of(sizes):
+    """For each setting the mask of all its worths."""
+    return [((1 << many) - 1) << spot_of(setting, 0) for setting, many in enumerate(sizes)]

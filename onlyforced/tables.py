@@ -3,7 +3,7 @@
 from onlyforced.edits import fits, made_edit
 from onlyforced.errors import BadTable, CannotMeet
 from onlyforced.forms import plain_pair, tuple_sized
-from onlyforced.pages import is_page, is_sizes, made_setting, made_sizes, page_fault
+from onlyforced.pages import is_sizes, made_setting, made_sizes, page_fault
 
 MOST_PAGES = 200
 
@@ -39,10 +39,15 @@ def is_table(thing):
     return _table_form(thing) and is_sizes(thing[0]) and _pages_fault(thing[0], thing[1]) is None
 
 
+def among(table, page):
+    """Whether this page is among the pages of a right table."""
+    # (True, 0) equals (1, 0), but is no page: the form is asked ahead of the place.
+    return page_fault(table[0], page) is None and page in table[1]
+
+
 def lawful(table, page):
     """Whether table is a table, with this page among its pages."""
-    # (True, 0) equals (1, 0), but is no page: the form is asked ahead of the place.
-    return is_table(table) and is_page(table[0], page) and page in table[1]
+    return is_table(table) and among(table, page)
 
 
 def having(table, edit):

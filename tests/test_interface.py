@@ -93,6 +93,14 @@ ROWS = (
     ("rowedits", "part_page", {"book": M, "one": (((1, 0),),), "two": ()}, (0, 1, 0)),
     ("letters", "made_row", {"sizes": (3, 2), "lot": (1,), "thing": ((1, 0, (0, 0)),)}, ((1, 0, (0, 0)),)),
     ("letters", "made_letter", {"sizes": (3, 2), "thing": ((1,), ())}, ((1,), ())),
+    ("worlds", "run_script", {
+        "book": T_BOOK, "page": (0, 1), "lots": ((0, 1),), "manner": "whole", "script": (("wish", 0, ((0, 2),)),),
+    }, (((0, 2), (1, 1)),)),
+    ("manners", "kept_by", {"book": M, "manner": "torn"}, False),
+    ("manners", "bad_run", {"book": C, "manner": "torn"}, None),
+    ("shared", "classes", {"book": C}, ((0,), (1,))),
+    ("shared", "may_share", {"book": M, "i": 0, "j": 1}, False),
+    ("shared", "lost_share", {"book": M, "i": 1, "j": 1}, None),
     ("hulls", "hull", {"table": T}, T_BOOK),
     ("hulls", "hull_table", {"table": T}, T),
     ("hulls", "made_by", {"table": T, "page": (1, 0)}, None),
@@ -185,6 +193,52 @@ class HouseTest(unittest.TestCase):
                 exactly(self, house.lot(), (0, 2))
                 exactly(self, house.shown(), ((0, 0), (2, 0)))
                 exactly(self, house.letter(), ((0, 2), ((0, 0, (9, 9)), (2, 0, (1, 4)))))
+            self.assertEqual(repr(named), before)
+
+# Each row: the file, the class, its arguments by name, and for each method the names of its own.
+CLASSES = (
+    ("shelves", "Shelf", {"row": ((0, 1, (0, 0)),)}, {
+        "steps": ["row"], "write": ["write"], "told": [], "places": [],
+    }),
+    ("worlds", "World", {"book": M, "page": (0, 0, 1), "lots": ((0, 1),), "manner": "whole"}, {
+        "wish": ["h", "wish"], "send": ["h"], "bring": ["letter", "h"], "part": ["letter", "h", "lot"],
+        "shown": ["h"], "row": ["h"], "holds": ["h"], "letter": ["number"], "letters": [], "heard": ["h"],
+    }),
+    ("shared", "SharedHouse", {"book": M, "page": (0, 0, 1), "number": 3}, {
+        "wish": ["wish"], "letter": [], "hear": ["letter"], "shown": [],
+    }),
+    ("ledger", "Ledger", {"book": M, "page": (0, 0, 1)}, {
+        "put": ["stamp", "wish"], "withdraw": ["stamp"], "restore": ["stamp"], "deeds": [], "page": [],
+        "page_of": ["stamps"], "back": [], "again": [],
+    }),
+)
+
+
+class ClassesTest(unittest.TestCase):
+    def parameters(self, function):
+        """The names of the parameters but the first one, all of which go by place and by name."""
+        parameters = list(inspect.signature(function).parameters.values())[1:]
+        for parameter in parameters:
+            self.assertEqual(parameter.kind, parameter.POSITIONAL_OR_KEYWORD)
+            self.assertIs(parameter.default, parameter.empty)
+        return [parameter.name for parameter in parameters]
+
+    def test_where_they_stand_and_the_names_of_the_arguments(self):
+        for file, name, named, methods in CLASSES:
+            made = getattr(importlib.import_module("onlyforced." + file), name)
+            self.assertTrue(inspect.isclass(made))
+            self.assertEqual(made.__module__, "onlyforced." + file)
+            self.assertEqual(self.parameters(made.__init__), list(named))
+            for method, names in methods.items():
+                self.assertTrue(inspect.isfunction(vars(made)[method]), method)
+                self.assertEqual(self.parameters(vars(made)[method]), names, method)
+
+    def test_arguments_by_position_and_by_name(self):
+        for file, name, named, _ in CLASSES:
+            made = getattr(importlib.import_module("onlyforced." + file), name)
+            before = repr(named)
+            for thing in (made(*named.values()), made(**named), made(**dict(reversed(named.items())))):
+                self.assertIsInstance(thing, made)
             self.assertEqual(repr(named), before)
 
 
