@@ -5,7 +5,8 @@ import inspect
 import unittest
 
 from onlyforced import houses
-from tests.helpers import C, H, M, N, T, exactly
+from tests.helpers import C, E, H, M, N, T, exactly
+from tests.texts_about import NAMES
 
 T_BOOK = ((3, 2), (("own", 0, (0, 1, 2)), ("own", 1, (0, 1)), ("either", 0, 0, 1, 1)))
 GRANTS = ((((1, 0),), ((1, 0),)), (((0, 1),), ((0, 1), (1, 1))))
@@ -101,6 +102,26 @@ ROWS = (
     ("shared", "classes", {"book": C}, ((0,), (1,))),
     ("shared", "may_share", {"book": M, "i": 0, "j": 1}, False),
     ("shared", "lost_share", {"book": M, "i": 1, "j": 1}, None),
+    ("kernel", "three_right", {"table": E, "x": E[1][0], "y": E[1][1], "z": E[1][2]}, True),
+    ("kernel", "stuck_right", {"table": E, "page": (1, 0, 1), "wish": ((0, 0),)}, True),
+    ("kernel", "unsafe_right", {"table": E, "edit": ((0, 0),), "page": (1, 0, 1)}, True),
+    ("kernel", "made_right", {"table": E, "page": (0, 0, 1), "rows": (E[1][:3],)}, True),
+    ("kernel", "book_right", {"table": T, "book": T_BOOK}, True),
+    ("kernel", "out_right", {"book": C, "steps": ((0, 1, 0, 1, 1),), "one": (0, 1), "two": (0, 1)}, True),
+    ("kernel", "none_right", {"book": N, "steps": ((0, 0, 0, 0, 1), (0, 1, 0, 1, 1))}, True),
+    ("kernel", "both_right", {"book": T_BOOK, "page": (2, 1), "one": (0, 2), "two": (1, 1)}, True),
+    ("formulas", "true_at", {"formula": ("not", ("is", 0, 1)), "page": (2, 1)}, True),
+    ("lawtexts", "made_names", {"thing": NAMES}, NAMES),
+    ("lawtexts", "sizes_of", {"names": NAMES}, (3, 2)),
+    ("lawtexts", "read_law", {"text": "settings a b; own a b"}, ((("a", ("b",)),), (("own", 0, (0,)),))),
+    ("lawtexts", "law_table", {"names": NAMES, "rules": (("either", 0, 0, 1, 1),)}, T),
+    ("lawtexts", "law_book", {"names": NAMES, "rules": T_BOOK[1]}, T_BOOK),
+    ("lawtexts", "print_law", {"names": (("a", ("b",)),), "rules": (("own", 0, (0,)),)}, "settings a b ; own a b"),
+    ("lawtexts", "print_book", {"names": (("a", ("b",)),), "book": ((1,), ())}, "settings a b"),
+    ("texts", "read_edit", {"names": NAMES, "text": "lock on"}, ((1, 1),)),
+    ("texts", "print_edit", {"names": NAMES, "edit": ((1, 1),)}, "lock on"),
+    ("texts", "read_page", {"names": NAMES, "text": "shut on"}, (2, 1)),
+    ("texts", "print_page", {"names": NAMES, "page": (2, 1)}, "shut on"),
     ("hulls", "hull", {"table": T}, T_BOOK),
     ("hulls", "hull_table", {"table": T}, T),
     ("hulls", "made_by", {"table": T, "page": (1, 0)}, None),
@@ -211,6 +232,7 @@ CLASSES = (
         "put": ["stamp", "wish"], "withdraw": ["stamp"], "restore": ["stamp"], "deeds": [], "page": [],
         "page_of": ["stamps"], "back": [], "again": [],
     }),
+    ("session", "Session", {"names": NAMES, "book": T_BOOK, "page": (0, 1), "many": 2}, {"row": ["text"], "text": []}),
 )
 
 
