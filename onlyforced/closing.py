@@ -4,7 +4,7 @@ from itertools import combinations
 
 from onlyforced.books import made_book, saying_right
 from onlyforced.errors import BadSaying, Unlike
-from onlyforced.leads import closed, pairs_in, worth_in
+from onlyforced.leads import closed, pairs_in, worths_at
 from onlyforced.pages import mask_of, spot_of
 from onlyforced.sorts import sort_of
 
@@ -54,7 +54,7 @@ def _ties(i, worths, leds, covers):
     found = {}
     # One worth leads to just one of each of these settings.
     for j, _ in pairs_in(leds[0] & everywhere):
-        found[j] = ("tied", i, j, tuple([(a, worth_in(led, j)) for a, led in zip(worths, leds)]))
+        found[j] = ("tied", i, j, tuple(zip(worths, worths_at(leds, j))))
     return found
 
 

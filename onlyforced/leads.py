@@ -22,9 +22,10 @@ def pairs_in(mask):
     return pairs
 
 
-def worth_in(mask, setting):
-    """The greatest worth of the setting that is in the mask, -1 if none is."""
-    return (mask >> spot_of(setting, 0) & FIELD).bit_length() - 1
+def worths_at(masks, setting):
+    """For each of the masks the greatest worth of the setting that is in it, -1 if none is."""
+    spot = spot_of(setting, 0)
+    return [(mask >> spot & FIELD).bit_length() - 1 for mask in masks]
 
 
 def _lowest(mask):

@@ -39,8 +39,11 @@ def seconds_each(calls):
     return min(rounds)
 
 
-# Those that look at each two settings, or at two books, may take thrice as long: all these limits
-# are three times and more what was measured, as machines are not all as fast.
+# The seconds that a call may take, of settings of up to four worths and of six: some four times what
+# was measured, as machines are not all as fast.
+SOON, SOON_OF_SIX = 0.0007, 0.0012
+
+# Those that look at each two settings, or at two books, may take thrice as long.
 THRICE = (tight, alike)
 
 
@@ -63,15 +66,15 @@ class FastTest(unittest.TestCase):
             for _ in range(20):
                 sizes = tuple(source.randint(2, 4) for _ in range(many))
                 books.append(planted_book(source, sizes, sayings))
-            self.all_soon(books, 0.0005)
+            self.all_soon(books, SOON)
 
     def test_six_worths(self):
         source = seeded(189)
         for sayings in (0, 20, 50):
-            self.all_soon([planted_book(source, (6,) * 24, sayings) for _ in range(20)], 0.001)
+            self.all_soon([planted_book(source, (6,) * 24, sayings) for _ in range(20)], SOON_OF_SIX)
 
     def test_chains(self):
-        for sizes, seconds in (((2,) * 24, 0.0005), ((4,) * 24, 0.0005), ((6,) * 24, 0.001)):
+        for sizes, seconds in (((2,) * 24, SOON), ((4,) * 24, SOON), ((6,) * 24, SOON_OF_SIX)):
             chain = tuple(("either", at, 0, at + 1, 1) for at in range(23))
             self.all_soon([((sizes, chain), (0,) * 24)], seconds)
             book = (sizes, chain + (("own", 0, (1,)), ("own", 23, (0,))))

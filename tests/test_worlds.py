@@ -361,8 +361,8 @@ class ScriptsTest(unittest.TestCase):
             refused(self, BadScript, -1, run_script, *given, script)
         right = (("wish", 0, ()), ("send", 1), ("bring", 0, 1), ("part", 0, 0, ()))
         for row in (
-            None, True, 0, "", "send", (), ("send",), ("send", 0, 0), ("wish", 0), ("wish", 0, (), ()), ("bring", 0),
-            ("bring", 0, 0, 0), ("part", 0, 0), ("part", 0, 0, (), ()), ("meet", 0, 0), ("Wish", 0, ()), (None, 0),
+            None, True, 0, "", "send", (), ("send",), ("meet",), ("send", 0, 0), ("wish", 0), ("wish", 0, (), ()),
+            ("bring", 0), ("bring", 0, 0, 0), ("part", 0, 0), ("part", 0, 0, (), ()), ("meet", 0, 0), ("Wish", 0, ()), (None, 0),
             (("send",), 0), (0, 0), (nested(48, "send"), 0), nested(49, 0),
         ):
             for ahead in ((), right):
